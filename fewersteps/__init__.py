@@ -1,0 +1,1 @@
+"""Fewersteps: programs with several sources and sinks, and when they are alike."""

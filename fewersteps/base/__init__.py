@@ -1,0 +1,1 @@
+"""What programs are written over: streams, and the numbers that callers pass."""
