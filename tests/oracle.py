@@ -123,3 +123,50 @@ def in_plain_order(places):
 def sign_order(step):
     """A key that sorts the moves of a take, the end last, and leaves other steps as they stand."""
     return (step[1] == "end", step[1]) if step[0] else 0
+
+
+def all_runs(places, sources, sinks, many):
+    """The tuples (steps, content, filling) of all runs with fewer than so many steps."""
+    found = []
+
+    def go(at, made, taken, put):
+        place = places[at]
+        if made >= many:
+            return
+        if place[0] == "done":
+            found.append((made, tuple(taken[name] for name in sources), tuple(put[name] for name in sinks)))
+        elif place[0] == "take":
+            for sign, to in place[2].items():
+                more = "" if sign == "end" else sign
+                go(to, made + 1, {**taken, place[1]: taken[place[1]] + more}, put)
+        elif place[0] == "put":
+            go(place[3], made + 1, taken, {**put, place[1]: put[place[1]] + place[2]})
+        else:
+            for to in place[1]:
+                go(to, made, taken, put)
+
+    go(0, 0, {name: "" for name in sources}, {name: "" for name in sinks})
+    return found
+
+
+def names(streams):
+    """The names of the sources, and those of the sinks."""
+    return [name for name, _ in streams.sources], [name for name, _ in streams.sinks]
+
+
+def runs_of(program, many):
+    """All runs of a program with fewer than so many steps."""
+    return all_runs(program.places, *names(program.streams), many)
+
+
+def table(found):
+    """A dict from the pairs (content, filling) of runs, ascending, to how many there are."""
+    pairs = [(content, filling) for _, content, filling in found]
+    return {pair: pairs.count(pair) for pair in sorted(set(pairs))}
+
+
+def fillings(program, content):
+    """A dict from the fillings of all runs for a content, ascending, to how many there are."""
+    sources, sinks = names(program.streams)
+    found = runs(program.places, dict(zip(sources, content)), sinks)
+    return {filling: found.count(filling) for filling in sorted(set(found))}

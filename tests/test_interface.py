@@ -7,6 +7,27 @@ import unittest
 FUNCTIONS = {
     "fewersteps.base.streams": {"is_name": "value", "is_signs": "value"},
     "fewersteps.books.program": {"is_places": "streams value"},
+    "fewersteps.books.runs": {"number_of_runs": "program content filling", "fillings": "program content"},
+    "fewersteps.books.flows": {
+        "solid_starts": "program",
+        "solid_moves": "program",
+        "runs_by_steps": "program many",
+        "flow": "program many",
+        "short_runs": "program many",
+        "fewest_steps": "program",
+    },
+    "fewersteps.decide.alike": {
+        "is_empty": "bag",
+        "is_alike": "one other",
+        "difference": "bag",
+        "is_difference": "bag value",
+        "is_least_difference": "bag value",
+        "apart": "one other",
+        "is_apart": "one other value",
+        "short_paper": "one other",
+        "is_short_paper": "one other value",
+        "alike_classes": "programs",
+    },
 }
 CLASSES = {
     ("fewersteps.base.streams", "Streams"): {
@@ -44,6 +65,46 @@ CLASSES = {
         "__eq__": None,
         "__str__": None,
     },
+    ("fewersteps.books.runs", "Run"): {
+        "__init__": "self program content",
+        "is_done": "self",
+        "is_lost": "self",
+        "go": "self way",
+        "go_on": "self",
+        "undo": "self many",
+        "twin": "self",
+        "__len__": None,
+        "__eq__": None,
+        "__str__": None,
+    },
+    ("fewersteps.books.runs", "Feeder"): {
+        "__init__": "self program",
+        "feed": "self source word",
+        "end": "self source",
+        "is_done": "self",
+        "is_lost": "self",
+        "undo": "self many",
+        "twin": "self",
+        "__len__": None,
+        "__eq__": None,
+        "__str__": None,
+    },
+    ("fewersteps.algebra.bags", "Bag"): {
+        "__init__": "self streams pairs",
+        "number": "self content filling",
+        "factor": "self program",
+        "short_numbers": "self",
+        "__add__": None,
+        "__sub__": None,
+        "__neg__": None,
+        "__mul__": None,
+        "__rmul__": None,
+        "__bool__": None,
+        "__len__": None,
+        "__contains__": None,
+        "__eq__": None,
+        "__str__": None,
+    },
 }
 CLASS_METHODS = {
     ("fewersteps.books.program", "Program"): {
@@ -51,11 +112,25 @@ CLASS_METHODS = {
         "reading": "streams",
         "copying": "streams source sink",
     },
+    ("fewersteps.algebra.bags", "Bag"): {"of": "program", "none": "streams"},
 }
 PROPERTIES = {
     ("fewersteps.base.streams", "Streams"): ("sources", "sinks", "names"),
     ("fewersteps.books.program", "Program"): ("streams", "places", "size"),
+    ("fewersteps.books.runs", "Run"): ("place", "left", "filling", "steps", "ways", "moves"),
+    ("fewersteps.books.runs", "Feeder"): ("came", "has_ended", "result", "waits_for", "place"),
+    ("fewersteps.algebra.bags", "Bag"): ("streams", "pairs", "bound", "flow"),
 }
+CONSTANTS = {
+    ("fewersteps.base.streams", "MAX_WORD"): 200,
+    ("fewersteps.books.program", "MAX_WRITTEN"): 24,
+    ("fewersteps.books.program", "MAX_PLACES"): 80,
+    ("fewersteps.books.flows", "MAX_FLOW"): 20000,
+}
+KEYWORDS = (
+    ("fewersteps.books.runs", "Run", "undo", {"many": 1}),
+    ("fewersteps.books.runs", "Feeder", "undo", {"many": 1}),
+)
 
 
 def parameters(function):
@@ -91,6 +166,17 @@ class TestInterface(unittest.TestCase):
             made = getattr(importlib.import_module(module), name)
             for name in properties:
                 self.assertIsInstance(vars(made)[name], property)
+
+    def test_constants(self):
+        for (module, name), value in CONSTANTS.items():
+            self.assertEqual(getattr(importlib.import_module(module), name), value)
+
+    def test_keywords(self):
+        for module, name, method, expected in KEYWORDS:
+            holder = importlib.import_module(module)
+            function = getattr(getattr(holder, name) if name else holder, method)
+            found = inspect.signature(function).parameters.values()
+            self.assertEqual({at.name: at.default for at in found if at.kind is at.KEYWORD_ONLY}, expected)
 
 
 if __name__ == "__main__":

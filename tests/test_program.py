@@ -9,22 +9,7 @@ from fewersteps.books.program import Program, is_places, made_program
 from fewersteps.errors import InvalidNumber, InvalidOperation, InvalidProgram, InvalidStreams, InvalidWord
 from fewersteps.errors import TooMany, UnknownName
 from tests import oracle
-from tests.values import BARE, COPY, LINE, PAIR, WIDE, anything, but, chain
-
-# Places 4 and 5 are of no use, and the places are in another order than the plain one.
-LOOSE = Program(
-    PAIR,
-    (
-        ("either", (5, 3, 1)),
-        ("take", "y", {"b": 1, "end": 6}),
-        ("done",),
-        ("put", "z", "b", 1),
-        ("take", "y", {"b": 5}),
-        ("put", "z", "a", 4),
-        ("take", "x", {"a": 6, "end": 2}),
-    ),
-)
-LOST = Program(LINE, (("take", "x", {"a": 1, "b": 1}), ("put", "z", "a", 0)))
+from tests.values import BARE, COPY, LINE, LOOSE, LOST, PAIR, WIDE, anything, but, chain
 
 
 def right_programs(streams, many, ways, stride=1):

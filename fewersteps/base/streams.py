@@ -36,6 +36,23 @@ def is_word(signs, value):
     return isinstance(value, str) and all([sign in signs for sign in value])
 
 
+def check_content(streams, value):
+    """Raise InvalidContent if the value is no content that can be passed alone."""
+    if not streams.is_content(value) or not _are_short(value):
+        raise InvalidContent("a content has a word of each source, with at most 200 signs")
+
+
+def check_filling(streams, value):
+    """Raise InvalidContent if the value is no filling that can be passed alone."""
+    if not streams.is_filling(value) or not _are_short(value):
+        raise InvalidContent("a filling has a word of each sink, with at most 200 signs")
+
+
+def _are_short(words):
+    """Whether all words are short enough to be passed alone."""
+    return all([len(word) <= MAX_WORD for word in words])
+
+
 def _are_letters(text):
     """Whether the text has letters from a to z alone."""
     return all(["a" <= letter <= "z" for letter in text])

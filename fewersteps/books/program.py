@@ -25,6 +25,12 @@ def made_program(streams, places):
     return program
 
 
+def check_program(value):
+    """Raise InvalidProgram if the value is no program."""
+    if not isinstance(value, Program):
+        raise InvalidProgram("this is no program")
+
+
 def _check_streams(value):
     """Raise InvalidStreams if the value is no streams."""
     if not isinstance(value, Streams):

@@ -1,0 +1,1 @@
+"""Which programs and bags are alike, and what shows it."""
