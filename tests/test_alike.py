@@ -12,7 +12,7 @@ from fewersteps.errors import InvalidBag, InvalidOperation, InvalidProgram, TooM
 from tests import oracle
 from tests.cases import Case, spoil
 from tests.values import BARE, COPY, EARLY, EVERY, FLIP, LATE, LINE, LOOSE, LOST, NEST, PAIR, PROGRAMS, SHUFFLE, SOUND
-from tests.values import TOSS, anything, long_program, ways_program
+from tests.values import TOSS, anything, chain, long_program, ways_program
 
 NOTHING = Program.nothing(LINE)
 # Alike to COPY, with one take more.
@@ -56,7 +56,8 @@ def bags():
     return [
         Bag.none(LINE), Bag.of(COPY), Bag.of(COPY) - SAME, Bag.of(LOST), Bag.of(TOSS) + FLIP,
         Bag(LINE, ((COPY, 2), (TOSS, -1))), Bag(LINE, ((COPY, 10 ** 59), (SAME, -10 ** 59))),
-        Bag.of(COPY) * 10 ** 59 * 10 ** 59 - TOSS, Bag(LINE, ((COPY, 1), (SAME, 1), (NEST, -2))), Bag.of(NOTHING) - LOST,
+        Bag.of(COPY) * 10 ** 59 * 10 ** 59 - TOSS, Bag(LINE, ((COPY, 1), (SAME, 1), (NEST, -2))),
+        Bag.of(NOTHING) - LOST,
     ]
 
 
@@ -140,6 +141,19 @@ class TestDifference(Case):
                 self.assertIn(found, numbers)
                 self.assertIs(is_least_difference(bag, found), True)
 
+    def test_the_least_is_not_the_first(self):
+        # The first pair of the ascending ones has more steps than another one.
+        blank = Program(LINE, (("take", "x", {"end": 1}), ("done",)))
+        bag = Bag.of(COPY) + Program(LINE, chain(7)) - blank
+        self.assertEqual(list(bag.short_numbers())[0], (("",), ("babab",)))
+        self.assertIn(difference(bag), [(("a",), ("a",)), (("b",), ("b",))])
+        self.assertIs(is_least_difference(bag, (("",), ("babab",))), False)
+
+    def test_no_difference_with_the_fewest_steps(self):
+        bag = Bag.of(COPY) - TOSS
+        self.same([is_least_difference(bag, ((sign,), (sign,))) for sign in "ab"], [True, False])
+        self.same([is_least_difference(bag, (("b",), ("a",))), is_difference(bag, (("b",), ("b",)))], [True, False])
+
     def test_none(self):
         bag = Bag.of(COPY) - LATE
         self.assertIsNone(difference(bag))
@@ -148,7 +162,8 @@ class TestDifference(Case):
     def test_words_of_any_length(self):
         bag = Bag.of(COPY) - TOSS
         self.same([is_difference(bag, (("a" * 300,), ("a" * 300,))), is_difference(bag, (("",), ("",)))], [True, False])
-        self.same([is_difference(bag, (("a" * 9000,), ("b" * 9000,))), is_difference(bag, (("a",), ("aa",)))], [True, False])
+        self.assertIs(is_difference(bag, (("a" * 9000,), ("b" * 9000,))), True)
+        self.assertIs(is_difference(bag, (("a",), ("aa",))), False)
         self.assertIs(is_least_difference(bag, (("a" * 300,), ("a" * 300,))), False)
         self.assertIs(is_apart(COPY, TOSS, (("a" * 300,), ("a" * 300,), 1, 2 ** 300)), True)
 
@@ -162,7 +177,8 @@ class TestDifference(Case):
             self.same([is_difference(bag, value), is_least_difference(bag, value)], [False, False])
 
     def test_apart(self):
-        for one, other in itertools.product([COPY, TOSS, FLIP, LOST, NEST, Bag(LINE, ((COPY, 3), (TOSS, -5)))], repeat=2):
+        values = [COPY, TOSS, FLIP, LOST, NEST, Bag(LINE, ((COPY, 3), (TOSS, -5)))]
+        for one, other in itertools.product(values, repeat=2):
             found = apart(one, other)
             if is_alike(one, other):
                 self.assertIsNone(found)
@@ -206,8 +222,9 @@ class TestPaper(Case):
         self.assertIs(is_short_paper(COPY, TOSS, right), True)
         wrong = [
             ("apart", ("ab",), ("aa",), 0, 4), ("apart", ("b",), ("a",), False, 2), ("apart", ("b",), ("a",), 0, 1),
-            ("apart", ("b",), ("a",), 0), (("b",), ("a",), 0, 2), ["apart", ("b",), ("a",), 0, 2], ("apart",), ("alike",),
-            ("alike", 7, {}), ("alike", 7, {(("",), ("",)): 1}), ("alike", ("b",), ("a",), 0, 2), ("apart", None, 1, 2, 3),
+            ("apart", ("b",), ("a",), 0), (("b",), ("a",), 0, 2), ["apart", ("b",), ("a",), 0, 2], ("apart",),
+            ("alike",), ("alike", 7, {}), ("alike", 7, {(("",), ("",)): 1}), ("alike", ("b",), ("a",), 0, 2),
+            ("apart", None, 1, 2, 3),
         ]
         for value in wrong + anything():
             self.assertIs(is_short_paper(COPY, TOSS, value), False)
@@ -223,13 +240,20 @@ class TestPaper(Case):
         more = [{**numbers, (("a",), ("b",)): 0}, {**numbers, (("a" * 6,), ("a" * 6,)): 1}, {**numbers, None: 1}]
         for wrong in (fewer, *more, {**numbers, pair: 2}, {**numbers, pair: True}, {**fewer, "a": 1}, {}, None, 1):
             self.assertIs(is_short_paper(COPY, LATE, ("alike", 13, wrong)), False)
-        for wrong in (("alike", 12, numbers), ("alike", True, numbers), ("alike", 13, numbers, 0), ("alike", 13)):
+        rows = [("like", 13, numbers), (None, 13, numbers), ("alike", 12, numbers), ("alike", True, numbers)]
+        for wrong in rows + [("alike", 13, numbers, 0), ("alike", 13)]:
             self.assertIs(is_short_paper(COPY, LATE, wrong), False)
         for value in [("apart", ("a",), ("a",), 1, 1), *anything()]:
             self.assertIs(is_short_paper(COPY, LATE, value), False)
 
+    def test_not_alike(self):
+        one = Program(LINE, (COPY[0], *COPY.places[1:]))
+        numbers = oracle.table(oracle.runs_of(COPY, 7))
+        self.same([(Bag.of(one) - TOSS).bound, is_short_paper(one, TOSS, ("alike", 7, numbers))], [7, False])
+
     def test_true_is_not_one(self):
-        self.same([is_short_paper(COPY, COPY, ("alike", True, {})), is_short_paper(COPY, COPY, ("alike", 1, {}))], [False, True])
+        found = [is_short_paper(COPY, COPY, ("alike", bound, {})) for bound in (True, 1, 2)]
+        self.same(found, [False, True, False])
 
     def test_factors(self):
         one, other = Bag(LINE, ((COPY, 2), (TOSS, 1))), Bag(LINE, ((LATE, 2), (TOSS, 1)))
@@ -252,7 +276,8 @@ class TestClasses(Case):
     def test_classes(self):
         self.same(alike_classes((COPY,)), ((0,),))
         self.same(alike_classes((COPY, COPY, LATE)), ((0, 1, 2),))
-        self.same(alike_classes((LOST, TOSS, COPY, FLIP, NOTHING, LATE, TOSS, NEST)), ((0, 4), (1, 6), (2, 5), (3,), (7,)))
+        row = (LOST, TOSS, COPY, FLIP, NOTHING, LATE, TOSS, NEST)
+        self.same(alike_classes(row), ((0, 4), (1, 6), (2, 5), (3,), (7,)))
         self.same(alike_classes((EARLY, LOOSE, SHUFFLE)), ((0,), (1,), (2,)))
         self.same(alike_classes((EVERY,) * 8), ((0, 1, 2, 3, 4, 5, 6, 7),))
 
@@ -271,6 +296,12 @@ class TestClasses(Case):
         great = ways_program(20001)
         self.refused(TooMany, alike_classes, (SOUND, great), keeps=("limit", 20000))
         self.refused(TooMany, alike_classes, (SOUND, SOUND, great, great), keeps=("limit", 20000))
+        # The first two are alike, so that the second one is compared with no other one, but this has too many runs.
+        ring = Program(BARE, (*[("take", "x", {"a": (at + 1) % 12, "end": 12}) for at in range(12)], ("done",)))
+        row = (Program.reading(BARE), ring, SOUND)
+        self.same(alike_classes(row[:2]), ((0, 1),))
+        self.same(alike_classes(row[::2]), ((0,), (1,)))
+        self.refused(TooMany, alike_classes, row, keeps=("limit", 20000))
         # The difference of equal programs has no runs.
         self.same(alike_classes((great, great)), ((0, 1),))
 
@@ -308,6 +339,7 @@ class TestRefused(Case):
         for value in (None, (("",), ())):
             self.refused(TooMany, is_least_difference, Bag.of(great), value, keeps=("limit", 20000))
             self.refused(TooMany, is_short_paper, great, SOUND, value, keeps=("limit", 20000))
+            self.refused(TooMany, is_short_paper, SOUND, great, value, keeps=("limit", 20000))
         for call in (is_alike, apart, short_paper):
             self.refused(TooMany, call, great, SOUND, keeps=("limit", 20000))
             call(great, great)

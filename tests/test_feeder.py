@@ -155,6 +155,24 @@ class TestFeeder(Case):
         self.same(twin.undo(many=2), ("b",))
         self.same(state(twin), state(Feeder(WEAVE)))
 
+    def test_twins_go_on_at_once(self):
+        feeder = Feeder(WEAVE)
+        feeder.feed("x", "ab")
+        feeder.feed("y", "b")
+        before = state(feeder)
+        for calls in ([("y", "a"), ("x", "b"), ("x", None)], [("x", None), ("y", "bb"), ("y", None)]):
+            twin, other = feeder.twin(), Feeder(WEAVE)
+            other.feed("x", "ab")
+            other.feed("y", "b")
+            for name, piece in calls:
+                got = [at.end(name) if piece is None else at.feed(name, piece) for at in (twin, other)]
+                self.assertEqual(*got)
+                self.same(state(twin), state(other))
+            self.same(state(feeder), before)
+        twin = feeder.twin()
+        self.same([feeder.feed("y", "a"), feeder.end("x"), twin.came, twin.has_ended], [("a",), ("",), ("ab", "b"), ()])
+        self.same([feeder.undo(many=2), state(feeder), state(twin)], [("a",), before, before])
+
     def test_equal(self):
         one, two = Feeder(COPY), Feeder(Program(LINE, COPY.places))
         for word in ("a", "", "ba"):

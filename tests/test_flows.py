@@ -147,7 +147,8 @@ class TestCounts(Case):
         self.assertEqual(flow(SOUND, 200), (3 ** 199 - 1) // 2)
 
     def test_many_of_two_hundred(self):
-        self.assertEqual([len(runs_by_steps(COUNT, 200)), flow(COUNT, 200), len(short_runs(COUNT, 200))], [200, 199, 199])
+        self.assertEqual([len(runs_by_steps(COUNT, 200)), flow(COUNT, 200)], [200, 199])
+        self.assertEqual(len(short_runs(COUNT, 200)), 199)
         self.assertEqual(max(short_runs(COUNT, 200)), (("a" * 198,), ()))
 
     def test_nothing_shared(self):

@@ -252,11 +252,14 @@ class TestRun(Case):
     def test_twin(self):
         run = Run(LATE, ("abab",))
         run.go()
+        self.assertEqual(run.place, 1)
         twin = run.twin()
         twin.go_on()
         self.assertEqual([len(run), run.filling, run.left], [1, ("",), ("bab",)])
         run.go()
         self.assertEqual([len(twin), twin.filling], [9, ("abab",)])
+        self.same([run.undo(many=2), run.place, run.moves], [(("take", "x", "b"), ("take", "x", "a")), 0, ()])
+        self.same([twin.undo(many=8)[-1], twin.place, twin.left], [("take", "x", "b"), 1, ("bab",)])
 
     def test_long(self):
         word = "ab" * 100
@@ -288,7 +291,7 @@ class TestRefused(Case):
 
     def test_content(self):
         long = "a" * 201
-        wrong = but(("a",), ("",)) + [("c",), ("ab", ""), ("aB",), (long,), ("a" * 9000,), ["a"], "a", (None,), (("a",),)]
+        wrong = but(("a",), ("",)) + [("c",), ("ab", ""), ("aB",), (long,), ("a" * 9000,), ["a"], (None,), (("a",),)]
         for value in wrong:
             self.refused(InvalidContent, number_of_runs, COPY, value, ("",))
             self.refused(InvalidContent, number_of_runs, COPY, value, None)

@@ -20,11 +20,9 @@ def is_alike(one, other):
 
 
 def _less(one, other):
-    """The bag `one` less the bag `other`, each perhaps given as a program."""
+    """The bag `one` less the bag `other`, each perhaps given as a program; InvalidOperation for other streams."""
     left = _as_bag(one)
     right = _as_bag(other)
-    if left.streams != right.streams:
-        raise InvalidOperation("the streams are not equal")
     return left - right
 
 
