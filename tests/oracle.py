@@ -170,3 +170,12 @@ def fillings(program, content):
     sources, sinks = names(program.streams)
     found = runs(program.places, dict(zip(sources, content)), sinks)
     return {filling: found.count(filling) for filling in sorted(set(found))}
+
+
+def numbers(bag, many):
+    """The numbers of a bag, where they are not 0, for all contents and fillings with fewer than so many steps."""
+    total = {}
+    for program, factor in bag.pairs:
+        for _, content, filling in runs_of(program, many):
+            total[(content, filling)] = total.get((content, filling), 0) + factor
+    return {pair: total[pair] for pair in sorted(total) if total[pair]}

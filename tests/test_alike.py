@@ -33,15 +33,6 @@ def counter(many):
     return Program(BARE, (*places, ("take", "x", {"end": many + 1}), ("done",)))
 
 
-def plain(bag, many):
-    """The numbers of a bag for all runs with fewer than so many steps, by a plain search."""
-    total = {}
-    for program, factor in bag.pairs:
-        for _, content, filling in oracle.runs_of(program, many):
-            total[(content, filling)] = total.get((content, filling), 0) + factor
-    return {pair: total[pair] for pair in sorted(total) if total[pair]}
-
-
 def tiny_programs():
     """All programs of TINY with one or two places, and some with three."""
     for many, ways, stride in ((1, 1, 1), (2, 2, 1), (3, 2, 1)):
@@ -80,7 +71,7 @@ class TestEmpty(Case):
     def test_empty(self):
         for bag in bags():
             # Differences above the bound would be found here, too.
-            self.assertIs(is_empty(bag), not plain(bag, bag.bound + 3))
+            self.assertIs(is_empty(bag), not oracle.numbers(bag, bag.bound + 3))
 
     def test_tiny_programs(self):
         programs = list(tiny_programs())
@@ -130,7 +121,7 @@ class TestEmpty(Case):
 class TestDifference(Case):
     def test_least(self):
         for bag in bags():
-            numbers = plain(bag, bag.bound)
+            numbers = oracle.numbers(bag, bag.bound)
             least = min((LINE.steps_of(*pair) for pair in numbers), default=None)
             found = difference(bag)
             self.assertEqual(found is None, least is None)
@@ -258,7 +249,7 @@ class TestPaper(Case):
     def test_factors(self):
         one, other = Bag(LINE, ((COPY, 2), (TOSS, 1))), Bag(LINE, ((LATE, 2), (TOSS, 1)))
         paper = short_paper(one, other)
-        self.same(paper, ("alike", 13, plain(one, 13)))
+        self.same(paper, ("alike", 13, oracle.numbers(one, 13)))
         self.assertIs(is_short_paper(one, other, paper), True)
         self.assertIs(is_short_paper(other, one, paper), True)
 

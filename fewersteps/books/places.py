@@ -19,7 +19,9 @@ def is_right(streams, value, most):
     if ended is None or None in ended:
         return False
     many = len(streams.sources)
-    return all([_may_stand(place, there, many) for place, there in zip(value, ended)]) and not _comes_back(value)
+    if not all([_may_stand(place, there, many) for place, there in zip(value, ended)]):
+        return False
+    return not comes_back({at: _next_without_sign(place) for at, place in enumerate(value)})
 
 
 def _is_place(streams, value, many):
@@ -114,11 +116,11 @@ def _may_stand(place, ended, many):
     return place[0] != "done" or len(ended) == many
 
 
-def _comes_back(places):
-    """Whether a way without a take of a sign leads from some place back to it."""
-    left = {at: _next_without_sign(place) for at, place in enumerate(places)}
+def comes_back(leads):
+    """Whether a way leads from some place back to it, by a dict from places to the next places of such ways."""
+    left = dict(leads)
     while left:
-        # A place from which such ways lead only to places that are left out is on no way back to itself.
+        # A place from which ways lead only to places that are left out is on no way back to itself.
         outside = [at for at in left if not any([to in left for to in left[at]])]
         if not outside:
             return True
@@ -151,10 +153,10 @@ def of_use(places):
     return useful
 
 
-def plain_order(places, kept):
-    """The numbers of the kept places as a search by breadth from place 0 finds them; place 0 is kept."""
-    order = [0]
-    found = {0: True}
+def plain_order(places, kept, first):
+    """The numbers of the kept places as a search by breadth from the first one finds them; this one is kept."""
+    order = [first]
+    found = {first: True}
     at = 0
     while at < len(order):
         behind = next_places(places[order[at]])
@@ -164,6 +166,14 @@ def plain_order(places, kept):
                 order.append(to)
         at += 1
     return order
+
+
+def trimmed_places(streams, places, first):
+    """The places of the trimmed program that begins at this place, of places with moves in the order of the signs."""
+    useful = of_use(places)
+    if not useful[first]:
+        return (("take", streams.names[0], {}),)
+    return arranged(places, plain_order(places, useful, first))
 
 
 def arranged(places, order):

@@ -3,7 +3,7 @@
 from fewersteps.base.streams import Streams, is_sign
 from fewersteps.base.values import check_number
 from fewersteps.books.places import arranged, copied, ended_at, has_all_moves, is_right, of_use, plain_order
-from fewersteps.books.places import settled, with_names, with_signs
+from fewersteps.books.places import settled, trimmed_places, with_names, with_signs
 from fewersteps.errors import InvalidOperation, InvalidProgram, InvalidStreams, InvalidWord, TooMany, UnknownName
 
 MAX_WRITTEN = 24
@@ -143,15 +143,12 @@ class Program:
     def ordered(self):
         """The program with the same places in the plain order."""
         everything = [True] * len(self._places)
-        order = plain_order(self._places, everything)
+        order = plain_order(self._places, everything, 0)
         return made_program(self._streams, arranged(self._places, order))
 
     def trimmed(self):
         """The program without what is of no use, in the plain order."""
-        if not self._useful[0]:
-            return Program.nothing(self._streams)
-        order = plain_order(self._places, self._useful)
-        return made_program(self._streams, arranged(self._places, order))
+        return made_program(self._streams, trimmed_places(self._streams, self._places, 0))
 
     def is_trimmed(self):
         """Whether the program is trimmed."""

@@ -1,0 +1,1 @@
+"""Programs that are changed into others that are alike to them."""
