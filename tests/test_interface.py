@@ -28,6 +28,34 @@ FUNCTIONS = {
         "is_short_paper": "one other value",
         "alike_classes": "programs",
     },
+    "fewersteps.decide.relations": {
+        "relations": "programs",
+        "rank": "programs",
+        "is_relation": "programs value",
+        "relation_paper": "programs",
+        "is_relation_paper": "programs value",
+        "expressed": "programs program",
+        "is_independent": "programs",
+        "number_table": "programs runs",
+    },
+    "fewersteps.decide.tables": {
+        "is_sum": "bag value",
+        "first_sum": "bag",
+        "stripped": "bag value",
+        "can_lead": "bag value source",
+        "led": "bag value source",
+        "split": "bag value source",
+        "gone_on": "bag value",
+        "closed_table": "bag",
+        "is_closed_table": "bag value",
+    },
+    "fewersteps.change.exchanges": {
+        "with_exchange": "program exchange",
+        "with_exchanges": "program row",
+        "possible_exchanges": "program",
+        "exchange_row": "program other most",
+        "is_exchange_row": "program other value",
+    },
 }
 CLASSES = {
     ("fewersteps.base.streams", "Streams"): {
@@ -126,10 +154,13 @@ CONSTANTS = {
     ("fewersteps.books.program", "MAX_WRITTEN"): 24,
     ("fewersteps.books.program", "MAX_PLACES"): 80,
     ("fewersteps.books.flows", "MAX_FLOW"): 20000,
+    ("fewersteps.decide.tables", "MAX_ROWS"): 200,
+    ("fewersteps.decide.tables", "MAX_REST"): 20,
 }
 KEYWORDS = (
     ("fewersteps.books.runs", "Run", "undo", {"many": 1}),
     ("fewersteps.books.runs", "Feeder", "undo", {"many": 1}),
+    ("fewersteps.change.exchanges", None, "exchange_row", {"most": 2}),
 )
 
 

@@ -56,7 +56,8 @@ def counts(moves):
 WORDS = tuple(counts([{"a": at + 1} for at in range(many)] + [{"end": many + 1}]) for many in range(6))
 SHORT = counts([{"a": 1, "end": 4}, {"a": 2, "end": 4}, {"a": 3, "end": 4}, {"end": 4}])
 TUPLES = [
-    (COPY,), (LOST,), (COPY, LATE), (COPY, COPY, TOSS), (TOSS, TOSS), (TOSS, FLIP), (TOSS, FLIP, EACH), (LOST, COPY, NOTHING),
+    (COPY,), (LOST,), (COPY, LATE), (COPY, COPY, TOSS), (TOSS, TOSS), (TOSS, FLIP), (TOSS, FLIP, EACH),
+    (LOST, COPY, NOTHING),
     (READ, TWO, THREE), (THREE, TWO, READ), (TWO, THREE), (TWO, THREE, FOUR, SIX), (SIX, FOUR), (EVEN, ODD, ALL),
     (ALL, ODD, EVEN), (EVEN, ODD, ALL, DOUBLE, SOUND, EVEN), (DOUBLE, EVEN, ODD), (EARLY, LOOSE, EARLY),
     (DOUBLE, SOUND, EVEN), (EACH, EACH, EACH, EACH, EACH, EACH), (COPY, SAME, TOSS), WORDS, (*WORDS[:4], SHORT, ALL),
@@ -223,18 +224,33 @@ class TestPaper(Case):
         basis = ((1, -1),)
         for word, right in (("", True), ("a", True), ("ab", False)):
             self.assertIs(is_relation_paper((COPY, COPY), (basis, (1,), (((word,), (word,)),))), right)
-        self.assertIs(is_relation_paper((COPY, LATE), (basis, (1,), ((("ab",), ("ab",)),))), True)
+        # It is 13 for these, and the last pair has 13 steps.
+        for word, right in (("ab", True), ("ababa", True), ("ababab", False)):
+            self.assertIs(is_relation_paper((COPY, LATE), (basis, (1,), (((word,), (word,)),))), right)
+
+    def test_how_many(self):
+        one, two = (("",), ("",)), (("a",), ("b",))
+        self.assertIs(is_relation_paper((TOSS, FLIP), ((), (0, 1), (one, two))), True)
+        for indices, runs in (((0, 1), (one,)), ((0,), (one, two)), ((0,), (one,)), ((), ())):
+            self.assertIs(is_relation_paper((TOSS, FLIP), ((), indices, runs)), False)
+        basis = relations((TOSS, FLIP, TOSS))
+        for indices, right in (((0, 1), True), ((1, 2), True), ((0, 2), False), ((0, 1, 2), False), ((0,), False)):
+            self.assertIs(is_relation_paper((TOSS, FLIP, TOSS), (basis, indices, (one, two))), right)
 
     def test_wrong_values(self):
         right = (((1, -1),), (0,), ((("a",), ("a",)),))
         self.assertIs(is_relation_paper((COPY, LATE), right), True)
         wrong = [
             (((True, -1),), *right[1:]), (((1, -1, 0),), *right[1:]), (((2, -2),), *right[1:]), ((), *right[1:]),
-            ([(1, -1)], *right[1:]), (((-1, 1),), *right[1:]), (([1, -1],), *right[1:]), (((1, -1), (0, 0)), *right[1:]),
+            ([(1, -1)], *right[1:]), (((-1, 1),), *right[1:]), (([1, -1],), *right[1:]), 
+            (((1, -1), (0, 0)), *right[1:]),
             (right[0], (False,), right[2]), (right[0], [0], right[2]), (right[0], (2,), right[2]), (right[0], (), ()),
-            (right[0], (0,), [(("a",), ("a",))]), (right[0], (0,), ((("a",), ("b",)),)), (right[0], (0,), (("a", "a"),)),
+            (right[0], (0,), [(("a",), ("a",))]), (right[0], (0,), ((("a",), ("b",)),)), 
+            (right[0], (0,), (("a", "a"),)),
             (right[0], (0,), ((("a",), ("a",)),) * 2), (right[0], (0, 1), ((("a",), ("a",)),) * 2), right[:2],
             (right[0], (0,), ((("c",), ("a",)),)), (right[0], (0,), ((["a"], ("a",)),)), list(right), (*right, ()),
+            (right[0], (0,), ((("a",), ("a",), ()),)), (right[0], (0,), ((("a",), "a"),)), (*right[:2], ((("a",),),)),
+            (right[0], (0,), ((("a",), ("a", "")),)), (right[0], (0,), ((("a",), ("c",)),)), (*right[:2], (right[2],)),
             (right[0], (None,), right[2]), (right[0], (0,), (None,)), (None, None, None),
         ]
         for value in wrong + anything():
@@ -252,7 +268,8 @@ class TestPaper(Case):
 
 class TestExpressed(Case):
     def test_expressed(self):
-        for programs, program in itertools.product(TUPLES, (COPY, TOSS, EACH, READ, TWO, ALL, DOUBLE, EVEN, EARLY, NOTHING)):
+        wanted = (COPY, TOSS, EACH, READ, TWO, ALL, DOUBLE, EVEN, EARLY, NOTHING)
+        for programs, program in itertools.product(TUPLES, wanted):
             if program.streams != programs[0].streams:
                 continue
             try:

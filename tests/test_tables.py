@@ -4,7 +4,6 @@ import random
 import unittest
 
 from fewersteps.algebra.bags import Bag
-from fewersteps.base.streams import Streams
 from fewersteps.books.program import Program, made_program
 from fewersteps.decide.alike import is_empty
 from fewersteps.decide.tables import MAX_REST, MAX_ROWS, can_lead, closed_table, first_sum, gone_on, is_closed_table
@@ -151,7 +150,8 @@ class TestSum(Case):
 
     def test_order(self):
         bag = Bag.of(COPY) - LATE
-        items = [(0, 0, ("", ""), 1), (0, 0, ("", "a"), -1), (0, 0, ("a", ""), 5), (0, 2, ("", ""), 1), (1, 0, ("", ""), 2)]
+        items = [(0, 0, ("", ""), 1), (0, 0, ("", "a"), -1), (0, 0, ("a", ""), 5), (0, 2, ("", ""), 1)]
+        items.append((1, 0, ("", ""), 2))
         self.assertIs(is_sum(bag, tuple(items)), True)
         self.assertIs(is_sum(bag, items), False)
         for at in range(4):
@@ -292,7 +292,8 @@ class TestGoneOn(Case):
     def test_known(self):
         bag = Bag.of(EARLY) - TARDY
         self.same(gone_on(bag, ((0, 3, ("", "", "aa"), 4), (1, 2, ("", "", "a"), -4))), {})
-        self.same(gone_on(bag, ((0, 3, ("", "", "ba"), 4), (1, 2, ("", "", "a"), -1))), {("", "", "aa"): -1, ("", "", "ba"): 4})
+        found = gone_on(bag, ((0, 3, ("", "", "ba"), 4), (1, 2, ("", "", "a"), -1)))
+        self.same(found, {("", "", "aa"): -1, ("", "", "ba"): 4})
         self.same([gone_on(bag, ()), gone_on(Bag.none(LINE), ())], [{}, {}])
 
     def test_either(self):
@@ -309,7 +310,8 @@ class TestGoneOn(Case):
 
     def test_open(self):
         bag = Bag.of(EARLY) - TARDY
-        for item in ((0, 0, ("", "", ""), 1), (0, 2, ("", "", ""), 1), (0, 3, (".", "", ""), 1), (1, 2, ("", "b.", ""), 1)):
+        items = [(0, 0, ("", "", ""), 1), (0, 2, ("", "", ""), 1), (0, 3, (".", "", ""), 1), (1, 2, ("", "b.", ""), 1)]
+        for item in items:
             self.refused(InvalidOperation, gone_on, bag, (item,))
             self.refused(InvalidOperation, gone_on, bag, tuple(sorted([item, (1, 3, ("", "", "b"), 1)])))
 
@@ -350,7 +352,8 @@ def ring(many, behind):
 
 
 EMPTY = [
-    Bag.of(COPY) - LATE, Bag.of(EARLY) - TARDY, Bag.of(STEPS) - YIELDS, Bag.of(COPY) - COPY, Bag.none(PAIR), Bag.of(LOST),
+    Bag.of(COPY) - LATE, Bag.of(EARLY) - TARDY, Bag.of(STEPS) - YIELDS, Bag.of(COPY) - COPY, Bag.none(PAIR),
+    Bag.of(LOST),
     Bag(LINE, ((COPY, 10 ** 59), (LATE, -10 ** 59), (LOST, 7))) * 10 ** 59, 2 * Bag.of(TARDY) - 2 * Bag.of(EARLY),
     Bag.of(ahead(3)[0]) - ahead(3)[1], Bag.of(words_of_y(3)[0]) - words_of_y(3)[1], Bag.of(ring(2, 1)) - ring(3, 1),
 ]
@@ -476,7 +479,8 @@ class TestClosed(Case):
 
     def test_rests_without_an_end(self):
         # An empty bag whose rests grow and grow.
-        double = Program(LINE, (("take", "x", {"a": 1, "end": 3}), ("put", "z", "a", 2), ("put", "z", "a", 0), ("done",)))
+        puts = (("put", "z", "a", 2), ("put", "z", "a", 0))
+        double = Program(LINE, (("take", "x", {"a": 1, "end": 3}), *puts, ("done",)))
         single = Program(LINE, (("take", "x", {"a": 1, "end": 2}), ("put", "z", "a", 0), ("done",)))
         either = Program(
             LINE,

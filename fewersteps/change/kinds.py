@@ -54,9 +54,10 @@ def crossed(streams, places, at):
     if take[0] != "take" or not take[2]:
         return None
     others = {step: places[to] for step, to in take[2].items()}
-    source = places[next_places(take)[0]][1]
-    if source == take[1] or not all([other[:2] == ("take", source) for other in others.values()]):
+    begun = places[next_places(take)[0]][:2]
+    if begun[0] != "take" or begun[1] == take[1] or not all([other[:2] == begun for other in others.values()]):
         return None
+    source = begun[1]
     made = list(places)
     moves = {}
     for step in (*streams.signs_of(source), "end"):

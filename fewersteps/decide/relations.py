@@ -4,7 +4,7 @@ from fewersteps.algebra.bags import Bag, check_flow
 from fewersteps.base.streams import check_content, check_filling
 from fewersteps.base.values import is_between, is_integer
 from fewersteps.books.flows import count_runs, runs_below
-from fewersteps.books.program import Program, check_program
+from fewersteps.books.program import check_program
 from fewersteps.decide.rows import eliminated, is_singular, product_of, reduced
 from fewersteps.errors import InvalidContent, InvalidOperation, InvalidProgram
 
@@ -45,20 +45,16 @@ def _check_related(programs):
 
 
 def _whole_bag(programs):
-    """The bag with the factor 1 for each of the different programs."""
-    different = []
-    for program in programs:
-        if program not in different:
-            different.append(program)
-    return Bag(programs[0].streams, tuple([(program, 1) for program in different]))
+    """A bag of all programs, which has the bound and the flow that count for them."""
+    return Bag(programs[0].streams, tuple([(program, 1) for program in programs]))
 
 
 def _columns(programs):
-    """A dict from the pairs (content, filling) of the short runs, ascending, to the tuples of their numbers."""
+    """A dict from the pairs (content, filling) of the short runs to the tuples of their numbers."""
     bound = _whole_bag(programs).bound
     tables = [runs_below(program, bound) for program in programs]
     pairs = {pair: True for numbers in tables for pair in numbers}
-    return {pair: tuple([numbers.get(pair, 0) for numbers in tables]) for pair in sorted(pairs)}
+    return {pair: tuple([numbers.get(pair, 0) for numbers in tables]) for pair in pairs}
 
 
 def _basis_of(programs):
