@@ -256,6 +256,8 @@ class TestKinds(Case):
     def test_flat(self):
         self.same(with_exchange(WAYS, ("flat", 1, 0))[1], ("either", (0, 4, 0, 5)))
         self.same(with_exchange(WAYS, ("flat", 3, 0))[5], ("either", (0, 6, 7, 0)))
+        four = Program(LINE, (("either", (1, 1, 1, 2)), ("take", "x", {"end": 3}), ("either", (1,)), ("done",)))
+        self.same(with_exchange(four, ("flat", 0, 3))[0], ("either", (1, 1, 1, 1)))
         # Five places would stand there; it is no either place; there is none with this index.
         for p, i in ((1, 2), (1, 1), (1, 3), (2, 0), (0, 0), (4, 2), (3, 3)):
             self.refused(InvalidOperation, with_exchange, WAYS, ("flat", p, i))
@@ -365,6 +367,7 @@ class TestSearch(Case):
         self.refused(InvalidOperation, exchange_row, COPY, LATE, most=1)
         self.refused(InvalidOperation, exchange_row, COPY, TOSS)
         self.refused(InvalidOperation, exchange_row, COPY, EARLY)
+        self.refused(InvalidOperation, exchange_row, Program.nothing(LINE), Program.nothing(BARE))
         late = with_exchange(EARLY, ("delay", 0))
         self.refused(InvalidOperation, exchange_row, late, EARLY, most=1)
         self.refused(InvalidOperation, exchange_row, EARLY, late, most=0)
@@ -413,6 +416,7 @@ class TestRefused(Case):
             self.refused(InvalidProgram, with_exchange, value, None)
             self.refused(InvalidProgram, with_exchanges, value, None)
             self.refused(InvalidProgram, exchange_row, value, value, most=7)
+            self.refused(InvalidProgram, exchange_row, value, COPY)
             self.refused(InvalidProgram, exchange_row, loop(12), value, most=7)
             self.refused(InvalidProgram, is_exchange_row, value, COPY, None)
             self.refused(InvalidProgram, is_exchange_row, COPY, value, None)
@@ -436,6 +440,22 @@ class TestRefused(Case):
             if value != ():
                 self.refused(InvalidOperation, with_exchanges, COPY, value)
         self.assertEqual(len(with_exchange(COPY, ("copy", 1, 0))), 5)
+
+    def test_numbers(self):
+        # Numbers are not counted from the end, and True is not 1.
+        for program in MORE:
+            for exchange in possible_exchanges(program):
+                for at in range(1, len(exchange)):
+                    number = exchange[at]
+                    wrong = [number - len(program), number - 4, number + len(program), number + 4, -1, str(number), None]
+                    wrong.extend([bool(number)] if number < 2 else [])
+                    for value in wrong:
+                        other = (*exchange[:at], value, *exchange[at + 1:])
+                        if type(value) is not int or other not in candidates(program):
+                            self.refused(InvalidOperation, with_exchange, program, other)
+        for exchange in (("join", 0, 4), ("join", 3, 4), ("copy", 0, 4), ("flat", 0, 4)):
+            self.refused(InvalidOperation, with_exchange, COPY, exchange)
+        self.refused(InvalidOperation, with_exchange, TOSS, ("go", 1, (0, 1, 2)))
 
     def test_most(self):
         for value in but(0, 1, 2) + [3, -1]:

@@ -110,6 +110,10 @@ class TestSum(Case):
         self.same(first_sum(Bag.of(LOST) + COPY), ((1, 0, ("", ""), 1),))
         self.same([first_sum(Bag.of(LOST)), first_sum(Bag.none(WIDE))], [(), ()])
         self.same(first_sum(Bag.of(THREE)), ((0, 0, ("",) * 6, 1),))
+        # Of use with a place 1 that is not, and without a place 1.
+        half = Program(BARE, (("either", (1, 2)), ("take", "x", {}), ("take", "x", {"end": 3}), ("done",)))
+        self.same(first_sum(Bag.of(half)), ((0, 0, ("",), 1),))
+        self.same(first_sum(Bag.of(Program.nothing(BARE)) + half), ((1, 0, ("",), 1),))
 
     def test_places(self):
         bag = Bag.of(LOOSE)

@@ -107,7 +107,9 @@ def _made_places(streams, places, exchange):
 def possible_exchanges(program):
     """All exchanges of the program but those with `turn`, ascending."""
     check_program(program)
-    yield from _list_exchanges(program.streams, program.places)
+    found = _list_exchanges(program.streams, program.places)
+    for exchange in found:
+        yield exchange
 
 
 def _list_exchanges(streams, places):
