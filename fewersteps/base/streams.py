@@ -36,6 +36,13 @@ def is_word(signs, value):
     return isinstance(value, str) and all([sign in signs for sign in value])
 
 
+def is_pair(streams, value):
+    """Whether the value is a pair of a content and a filling, with words of any length."""
+    if not isinstance(value, tuple) or len(value) != 2:
+        return False
+    return streams.is_content(value[0]) and streams.is_filling(value[1])
+
+
 def check_content(streams, value):
     """Raise InvalidContent if the value is no content that can be passed alone."""
     if not streams.is_content(value) or not _are_short(value):

@@ -1,6 +1,7 @@
 """Whether bags are empty and programs are alike, shown by short runs."""
 
 from fewersteps.algebra.bags import Bag, check_bag, check_flow, count_in, flow_below, numbers_below
+from fewersteps.base.streams import is_pair
 from fewersteps.base.values import is_between
 from fewersteps.books.program import Program
 from fewersteps.errors import InvalidBag, InvalidOperation, InvalidProgram
@@ -64,21 +65,14 @@ def _least_steps(bag, numbers):
 def is_difference(bag, value):
     """Whether the value is a pair of a content and a filling whose number is not 0."""
     check_bag(bag)
-    return _is_pair(bag, value) and count_in(bag, value[0], value[1]) != 0
-
-
-def _is_pair(bag, value):
-    """Whether the value is a pair of a content and a filling, with words of any length."""
-    if not isinstance(value, tuple) or len(value) != 2:
-        return False
-    return bag.streams.is_content(value[0]) and bag.streams.is_filling(value[1])
+    return is_pair(bag.streams, value) and count_in(bag, value[0], value[1]) != 0
 
 
 def is_least_difference(bag, value):
     """Whether the value is a difference with the fewest steps."""
     check_bag(bag)
     numbers = bag.short_numbers()
-    if not _is_pair(bag, value) or value not in numbers:
+    if not is_pair(bag.streams, value) or value not in numbers:
         return False
     return _steps_of(bag, value) == _least_steps(bag, numbers)
 
@@ -95,7 +89,7 @@ def apart(one, other):
 def is_apart(one, other, value):
     """Whether the value is a tuple of a difference, least or not, with both its numbers."""
     bag = _less(one, other)
-    if not isinstance(value, tuple) or len(value) != 4 or not _is_pair(bag, value[:2]):
+    if not isinstance(value, tuple) or len(value) != 4 or not is_pair(bag.streams, value[:2]):
         return False
     numbers = (count_in(_as_bag(one), value[0], value[1]), count_in(_as_bag(other), value[0], value[1]))
     return numbers[0] != numbers[1] and all([_is_number(told, true) for told, true in zip(value[2:], numbers)])

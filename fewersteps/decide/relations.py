@@ -1,7 +1,7 @@
 """Which integer multiples of programs add up to nothing."""
 
 from fewersteps.algebra.bags import Bag, check_flow
-from fewersteps.base.streams import check_content, check_filling
+from fewersteps.base.streams import check_content, check_filling, is_pair
 from fewersteps.base.values import is_between, is_integer
 from fewersteps.books.flows import count_runs, runs_below
 from fewersteps.books.program import check_program
@@ -129,18 +129,11 @@ def _are_short(programs, value, many):
     if not isinstance(value, tuple) or len(value) != many:
         return False
     streams = programs[0].streams
-    if not all([_is_pair(streams, pair) for pair in value]):
+    if not all([is_pair(streams, pair) for pair in value]):
         return False
     bound = _whole_bag(programs).bound
     steps = [streams.steps_of(content, filling) for content, filling in value]
     return all([made < bound for made in steps]) and len(set(value)) == many
-
-
-def _is_pair(streams, value):
-    """Whether the value is a pair of a content and a filling, with words of any length."""
-    if not isinstance(value, tuple) or len(value) != 2:
-        return False
-    return streams.is_content(value[0]) and streams.is_filling(value[1])
 
 
 def expressed(programs, program):
@@ -174,7 +167,7 @@ def number_table(programs, runs):
 
 def _check_pair(streams, pair):
     """Raise InvalidContent if this is no pair of a content and a filling that can be passed."""
-    if not isinstance(pair, tuple) or len(pair) != 2:
+    if not is_pair(streams, pair):
         raise InvalidContent("this is no pair of a content and a filling")
     check_content(streams, pair[0])
     check_filling(streams, pair[1])
