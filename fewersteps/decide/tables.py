@@ -78,6 +78,8 @@ def _cut(items):
     if not items:
         return ()
     shared = [_shared_length([item[2][at] for item in items]) for at in range(len(items[0][2]))]
+    if not any(shared):
+        return items
     # What is taken off is the same for all items, so that they stay ascending.
     return tuple([(index, place, _without(rests, shared), factor) for index, place, rests, factor in items])
 
@@ -112,20 +114,25 @@ def _check_source(bag, source):
 
 def _can_lead(bag, items, source):
     """Whether the source is open in all items, and no way from those with an empty rest of it goes on without it."""
-    if not all([_is_open(bag, item, source) for item in items]):
+    left = _places_without(bag, items, source)
+    if not all([_is_open_at(bag, place, source) for place in left]):
         return False
-    index_of = bag.streams.index_of(source)
     for index, pair in enumerate(bag.pairs):
-        starts = [item[1] for item in items if item[0] == index and item[2][index_of] == ""]
+        starts = [place[1] for place in left if place[0] == index]
         if comes_back(_ways_without(pair[0], starts, source)):
             return False
     return True
 
 
-def _is_open(bag, item, source):
-    """Whether the source is open in the item."""
-    program = bag.pairs[item[0]][0]
-    return item[2][bag.streams.index_of(source)] != "" or source not in program.ended(item[1])
+def _places_without(bag, items, source):
+    """The pairs (index, place) of the items with an empty rest of the source, each once; others are open anyway."""
+    index_of = bag.streams.index_of(source)
+    return sorted({item[:2] for item in items if item[2][index_of] == ""})
+
+
+def _is_open_at(bag, place, source):
+    """Whether the source is open in items with an empty rest of it and this pair (index, place)."""
+    return source not in bag.pairs[place[0]][0].ended(place[1])
 
 
 def _ways_without(program, starts, source):
@@ -169,27 +176,26 @@ def _gone_on(bag, factors, left):
     """The dict from (index, place, rests) to factors with the items of these keys gone on with by one move."""
     gone = {key: True for key in left}
     later = {key: factor for key, factor in factors.items() if key not in gone}
+    moves = {place: _moves_of(bag.pairs[place[0]][0], place[1]) for place in sorted({key[:2] for key in left})}
     for key in left:
-        for behind in _items_behind(bag, key):
+        for to, at, sign in moves[key[:2]]:
+            behind = (key[0], to, key[2] if at is None else _longer(key[2], at, sign))
             later[behind] = later.get(behind, 0) + factors[key]
     return {key: factor for key, factor in later.items() if factor != 0}
 
 
-def _items_behind(bag, key):
-    """The keys, each as often as it comes, of the items by which an item is replaced."""
-    index, place, rests = key
-    program = bag.pairs[index][0]
-    return [(index, to, behind) for to, behind in _moves_of(program, program[place], rests) if program.is_of_use(to)]
-
-
-def _moves_of(program, place, rests):
-    """The pairs of a next place and the rests behind the move to it."""
+def _moves_of(program, at):
+    """The moves of a place to places of use: (next place, index of the stream or None, sign behind its rest)."""
+    place = program[at]
+    names = program.streams.names
     if place[0] == "take":
-        at = program.streams.names.index(place[1])
-        return [(to, _longer(rests, at, END if step == "end" else step)) for step, to in place[2].items()]
-    if place[0] == "put":
-        return [(place[3], _longer(rests, program.streams.names.index(place[1]), place[2]))]
-    return [(to, rests) for to in next_places(place)]
+        index = names.index(place[1])
+        moves = [(to, index, END if step == "end" else step) for step, to in place[2].items()]
+    elif place[0] == "put":
+        moves = [(place[3], names.index(place[1]), place[2])]
+    else:
+        moves = [(to, None, "") for to in next_places(place)]
+    return [move for move in moves if program.is_of_use(move[0])]
 
 
 def _longer(rests, at, sign):
@@ -227,7 +233,12 @@ def gone_on(bag, value):
 
 def _has_open(bag, items):
     """Whether some source is open in some item."""
-    return any([_is_open(bag, item, name) for item in items for name, signs in bag.streams.sources])
+    for at, source in enumerate(bag.streams.sources):
+        if any([item[2][at] != "" for item in items]):
+            return True
+        if any([_is_open_at(bag, place, source[0]) for place in _places_without(bag, items, source[0])]):
+            return True
+    return False
 
 
 def _at_ends(bag, items):
