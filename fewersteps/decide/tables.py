@@ -126,8 +126,8 @@ def _can_lead(bag, items, source):
 
 def _places_without(bag, items, source):
     """The pairs (index, place) of the items with an empty rest of the source, each once; others are open anyway."""
-    index_of = bag.streams.index_of(source)
-    return sorted({item[:2] for item in items if item[2][index_of] == ""})
+    own = bag.streams.index_of(source)
+    return sorted({item[:2] for item in items if item[2][own] == ""})
 
 
 def _is_open_at(bag, place, source):
@@ -163,12 +163,12 @@ def _check_led(bag, value, source):
 
 def _led(bag, items, source):
     """The led sum of a sum that can be led."""
-    index_of = bag.streams.index_of(source)
+    own = bag.streams.index_of(source)
     factors = {item[:3]: item[3] for item in items}
-    left = [key for key in factors if key[2][index_of] == ""]
+    left = [key for key in factors if key[2][own] == ""]
     while left:
         factors = _gone_on(bag, factors, left)
-        left = [key for key in factors if key[2][index_of] == ""]
+        left = [key for key in factors if key[2][own] == ""]
     return tuple([(*key, factors[key]) for key in sorted(factors)])
 
 
@@ -211,13 +211,13 @@ def split(bag, value, source):
 
 def _split(bag, items, source):
     """The sums into which a sum is split that can be led."""
-    index_of = bag.streams.index_of(source)
+    own = bag.streams.index_of(source)
     everything = _led(bag, items, source)
     parts = {}
     for sign in (*bag.streams.signs_of(source), END):
-        begun = [item for item in everything if item[2][index_of][0] == sign]
+        begun = [item for item in everything if item[2][own][0] == sign]
         if begun:
-            lengths = [int(at == index_of) for at in range(len(bag.streams))]
+            lengths = [int(at == own) for at in range(len(bag.streams))]
             key = "end" if sign == END else sign
             parts[key] = tuple([(item[0], item[1], _without(item[2], lengths), item[3]) for item in begun])
     return parts
