@@ -125,8 +125,8 @@ def sign_order(step):
     return (step[1] == "end", step[1]) if step[0] else 0
 
 
-def all_runs(places, sources, sinks, many):
-    """The tuples (steps, content, filling) of all runs with fewer than so many steps."""
+def all_runs(places, sources, sinks, many, start=0):
+    """The tuples (steps, content, filling) of all runs with fewer than so many steps that begin at this place."""
     found = []
 
     def go(at, made, taken, put):
@@ -145,7 +145,7 @@ def all_runs(places, sources, sinks, many):
             for to in place[1]:
                 go(to, made, taken, put)
 
-    go(0, 0, {name: "" for name in sources}, {name: "" for name in sinks})
+    go(start, 0, {name: "" for name in sources}, {name: "" for name in sinks})
     return found
 
 
@@ -157,6 +157,11 @@ def names(streams):
 def runs_of(program, many):
     """All runs of a program with fewer than so many steps."""
     return all_runs(program.places, *names(program.streams), many)
+
+
+def tails(program, at, many):
+    """A dict from the tails of a place with at most so many steps to their numbers, where these are not 0."""
+    return table(all_runs(program.places, *names(program.streams), many + 1, at))
 
 
 def table(found):

@@ -1,10 +1,10 @@
 """Bags: programs with integer factors, added, subtracted and multiplied."""
 
-from fewersteps.base.streams import Streams, check_content, check_filling
+from fewersteps.base.streams import Streams, check_content, check_filling, check_streams
 from fewersteps.base.values import is_integer
 from fewersteps.books.flows import MAX_FLOW, count_runs, counted_runs, runs_below
 from fewersteps.books.program import Program, check_program
-from fewersteps.errors import InvalidBag, InvalidOperation, InvalidStreams, TooMany
+from fewersteps.errors import InvalidBag, InvalidOperation, TooMany
 
 
 def check_bag(value):
@@ -118,8 +118,7 @@ class Bag:
     @classmethod
     def none(cls, streams):
         """The bag without programs."""
-        if not isinstance(streams, Streams):
-            raise InvalidStreams("these are no streams")
+        check_streams(streams)
         return cls(streams, ())
 
     @property

@@ -15,14 +15,14 @@ def is_name(value):
     """Whether the value is a name of a stream."""
     if not isinstance(value, str) or not 1 <= len(value) <= MAX_NAME:
         return False
-    return _are_letters(value) and value != "end"
+    return are_letters(value) and value != "end"
 
 
 def is_signs(value):
     """Whether the value is the signs of a stream."""
     if not isinstance(value, str) or not 1 <= len(value) <= MAX_SIGNS:
         return False
-    return _are_letters(value) and all([low < high for low, high in zip(value, value[1:])])
+    return are_letters(value) and all([low < high for low, high in zip(value, value[1:])])
 
 
 def is_sign(signs, value):
@@ -43,6 +43,24 @@ def is_pair(streams, value):
     return streams.is_content(value[0]) and streams.is_filling(value[1])
 
 
+def check_streams(value):
+    """Raise InvalidStreams if the value is no streams."""
+    if not isinstance(value, Streams):
+        raise InvalidStreams("these are no streams")
+
+
+def check_source(streams, name):
+    """Raise UnknownName if this is no name of a source."""
+    if not streams.is_source(name):
+        raise UnknownName(name)
+
+
+def check_sink(streams, name):
+    """Raise UnknownName if this is no name of a sink."""
+    if streams.is_source(name):
+        raise UnknownName(name)
+
+
 def check_content(streams, value):
     """Raise InvalidContent if the value is no content that can be passed alone."""
     if not streams.is_content(value) or not _are_short(value):
@@ -60,7 +78,7 @@ def _are_short(words):
     return all([len(word) <= MAX_WORD for word in words])
 
 
-def _are_letters(text):
+def are_letters(text):
     """Whether the text has letters from a to z alone."""
     return all(["a" <= letter <= "z" for letter in text])
 

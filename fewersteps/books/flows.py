@@ -12,24 +12,24 @@ MAX_MANY = 200
 def solid_starts(program):
     """A dict from solid places to the numbers of ways from place 0, where these are not 0."""
     check_program(program)
-    return _solid_ways(program)[0]
+    return solid_ways(program)[0]
 
 
 def solid_moves(program):
     """A dict from all solid places to a tuple of their steps: (stream, sign or "end", ways to solid places)."""
     check_program(program)
-    ways = _solid_ways(program)
+    ways = solid_ways(program)
     return {at: _solid_steps(place, ways) for at, place in enumerate(program.places) if ways[at] == {at: 1}}
 
 
-def _indexed_moves(program):
+def indexed_moves(program):
     """The solid moves, in lists, with the indices of the streams among all streams instead of the names."""
     names = program.streams.names
     moves = solid_moves(program)
     return {at: [(names.index(stream), sign, nexts) for stream, sign, nexts in moves[at]] for at in moves}
 
 
-def _solid_ways(program):
+def solid_ways(program):
     """A dict from all places to the ways from them, through either places alone, to solid places."""
     places = program.places
     ways = {}
@@ -113,7 +113,7 @@ def short_runs(program, many):
 
 def runs_below(program, many):
     """What `short_runs` returns, for any number of steps."""
-    moves = _indexed_moves(program)
+    moves = indexed_moves(program)
     least = _least_steps(moves)
     words = ("",) * len(program.streams.names)
     now = {(at, words): runs for at, runs in solid_starts(program).items() if least[at] < many}
@@ -173,11 +173,18 @@ def _comes_to(steps, known):
 
 def count_runs(program, content, filling):
     """The number of a content and a filling with words of any length."""
-    moves = _indexed_moves(program)
-    words = content + filling
+    steps = program.streams.steps_of(content, filling)
+    return count_from(indexed_moves(program), solid_starts(program), content + filling, steps)
+
+
+def count_from(moves, starts, words, steps):
+    """How many runs from these solid places, each with its number of ways, take and put just these words.
+
+    All such runs have the same number of steps, which is given.
+    """
     met = (0,) * len(words)
-    now = {(at, met): runs for at, runs in solid_starts(program).items()}
-    for _ in range(program.streams.steps_of(content, filling)):
+    now = {(at, met): runs for at, runs in starts.items()}
+    for _ in range(steps):
         now = _later_with(moves, words, now)
     # All runs that go on with these words have the same number of steps, so that just these are at their ends.
     return sum([runs for (at, met), runs in now.items() if not moves[at]])
@@ -210,7 +217,7 @@ def _fillings_behind(program, content, starts, most):
 
     What is put is a dict from fillings to numbers of runs.
     """
-    moves = _indexed_moves(program)
+    moves = indexed_moves(program)
     nothing = ("",) * len(program.streams.sinks)
     known = {}
     waiting = [state for sink, sign, state, ways in starts]

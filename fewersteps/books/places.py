@@ -8,6 +8,9 @@ from fewersteps.base.values import is_between
 
 MAX_WAYS = 4
 
+# A place at which all runs are lost; none of a right program, but trimming leaves it out.
+LOST = ("either", ())
+
 
 def is_right(streams, value, most):
     """Whether the value is the places of a right program with at most so many places."""
@@ -179,10 +182,10 @@ def trimmed_places(streams, places, first):
 def arranged(places, order):
     """The places with these numbers in this order, without what leads to other places."""
     numbers = {old: new for new, old in enumerate(order)}
-    return tuple([_renumbered(places[old], numbers) for old in order])
+    return tuple([renumbered(places[old], numbers) for old in order])
 
 
-def _renumbered(place, numbers):
+def renumbered(place, numbers):
     """The place with new numbers of places, without moves and ways to places that have none."""
     if place[0] == "take":
         return (place[0], place[1], {step: numbers[to] for step, to in place[2].items() if to in numbers})
@@ -191,6 +194,16 @@ def _renumbered(place, numbers):
     if place[0] == "either":
         return (place[0], tuple([numbers[to] for to in place[1] if to in numbers]))
     return place
+
+
+def relinked(places, numbers):
+    """The places, in the plain order, with all that leads to a place leading to the one with its new number instead.
+
+    Where runs begin counts as what leads to place 0.
+    """
+    linked = [renumbered(place, numbers) for place in places]
+    everything = [True] * len(places)
+    return arranged(linked, plain_order(linked, everything, numbers[0]))
 
 
 def settled(streams, place):

@@ -1,10 +1,10 @@
 """Programs: finite tables of places that take signs from sources and put signs to sinks."""
 
-from fewersteps.base.streams import Streams, is_sign
+from fewersteps.base.streams import Streams, check_sink, check_source, check_streams, is_sign
 from fewersteps.base.values import check_number
 from fewersteps.books.places import arranged, copied, ended_at, has_all_moves, is_right, of_use, plain_order
 from fewersteps.books.places import settled, trimmed_places, with_names, with_signs
-from fewersteps.errors import InvalidOperation, InvalidProgram, InvalidStreams, InvalidWord, TooMany, UnknownName
+from fewersteps.errors import InvalidOperation, InvalidProgram, InvalidWord, TooMany
 
 MAX_WRITTEN = 24
 MAX_PLACES = 80
@@ -12,7 +12,7 @@ MAX_PLACES = 80
 
 def is_places(streams, value):
     """Whether the value is the places of a right program that can be written."""
-    _check_streams(streams)
+    check_streams(streams)
     return is_right(streams, value, MAX_WRITTEN)
 
 
@@ -29,12 +29,6 @@ def check_program(value):
     """Raise InvalidProgram if the value is no program."""
     if not isinstance(value, Program):
         raise InvalidProgram("this is no program")
-
-
-def _check_streams(value):
-    """Raise InvalidStreams if the value is no streams."""
-    if not isinstance(value, Streams):
-        raise InvalidStreams("these are no streams")
 
 
 def _reading_places(streams, source, sink):
@@ -76,23 +70,21 @@ class Program:
     @classmethod
     def nothing(cls, streams):
         """The trimmed program without runs."""
-        _check_streams(streams)
+        check_streams(streams)
         return cls(streams, (("take", streams.names[0], {}),))
 
     @classmethod
     def reading(cls, streams):
         """The trimmed program that takes each source to its end, one behind the other, and puts nothing."""
-        _check_streams(streams)
+        check_streams(streams)
         return cls(streams, _reading_places(streams, None, None))
 
     @classmethod
     def copying(cls, streams, source, sink):
         """The trimmed program that reads all sources and puts each sign of this one to the sink."""
-        _check_streams(streams)
-        if not streams.is_source(source):
-            raise UnknownName(source)
-        if streams.is_source(sink):
-            raise UnknownName(sink)
+        check_streams(streams)
+        check_source(streams, source)
+        check_sink(streams, sink)
         if not all([sign in streams.signs_of(sink) for sign in streams.signs_of(source)]):
             raise InvalidOperation("a sign of the source is none of the sink")
         return cls(streams, _reading_places(streams, source, sink))

@@ -35,7 +35,7 @@ def _check_together(programs):
     """Raise the error that is due if programs do not have the same streams, or have too many short runs together."""
     if not all([program.streams == programs[0].streams for program in programs]):
         raise InvalidOperation("the streams are not equal")
-    check_flow(_whole_bag(programs).flow)
+    check_flow(whole_bag(programs).flow)
 
 
 def _check_related(programs):
@@ -44,14 +44,14 @@ def _check_related(programs):
     _check_together(programs)
 
 
-def _whole_bag(programs):
+def whole_bag(programs):
     """A bag of all programs, which has the bound and the flow that count for them."""
     return Bag(programs[0].streams, tuple([(program, 1) for program in programs]))
 
 
 def _columns(programs):
     """A dict from the pairs (content, filling) of the short runs to the tuples of their numbers."""
-    bound = _whole_bag(programs).bound
+    bound = whole_bag(programs).bound
     tables = [runs_below(program, bound) for program in programs]
     pairs = {pair: True for numbers in tables for pair in numbers}
     return {pair: tuple([numbers.get(pair, 0) for numbers in tables]) for pair in pairs}
@@ -131,7 +131,7 @@ def _are_short(programs, value, many):
     streams = programs[0].streams
     if not all([is_pair(streams, pair) for pair in value]):
         return False
-    bound = _whole_bag(programs).bound
+    bound = whole_bag(programs).bound
     steps = [streams.steps_of(content, filling) for content, filling in value]
     return all([made < bound for made in steps]) and len(set(value)) == many
 

@@ -1,10 +1,10 @@
 """Sums of places with rests, and closed tables of them, which show that a bag is empty."""
 
 from fewersteps.algebra.bags import check_bag
-from fewersteps.base.streams import is_word
-from fewersteps.base.values import is_between
+from fewersteps.base.streams import check_source, is_word
+from fewersteps.base.values import is_between, is_integer
 from fewersteps.books.places import comes_back, next_places
-from fewersteps.errors import InvalidOperation, TooMany, UnknownName
+from fewersteps.errors import InvalidOperation, TooMany
 
 MAX_ROWS = 200
 MAX_REST = 20
@@ -28,12 +28,7 @@ def _is_item(bag, value):
     program = bag.pairs[value[0]][0]
     if not is_between(value[1], 0, len(program) - 1) or not program.is_of_use(value[1]):
         return False
-    return _are_rests(program, value[1], value[2]) and _is_factor(value[3])
-
-
-def _is_factor(value):
-    """Whether the value is an integer other than 0, of any length; True is none."""
-    return isinstance(value, int) and not isinstance(value, bool) and value != 0
+    return _are_rests(program, value[1], value[2]) and is_integer(value[3]) and value[3] != 0
 
 
 def _are_rests(program, place, value):
@@ -102,14 +97,8 @@ def _without(rests, lengths):
 def can_lead(bag, value, source):
     """Whether the sum can be led by the source."""
     _check_sum(bag, value)
-    _check_source(bag, source)
+    check_source(bag.streams, source)
     return _can_lead(bag, value, source)
-
-
-def _check_source(bag, source):
-    """Raise UnknownName if this is no name of a source."""
-    if not bag.streams.is_source(source):
-        raise UnknownName(source)
 
 
 def _can_lead(bag, items, source):

@@ -1,0 +1,1 @@
+"""Programs that are built of others, of rules and of recipes."""

@@ -1,0 +1,1 @@
+"""Desks: programs with names, and statements about them that hold at all times."""

@@ -1,0 +1,1 @@
+"""Texts of programs and of what is said about them, and commands in texts."""

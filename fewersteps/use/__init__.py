@@ -1,0 +1,1 @@
+"""What programs depend on, and what they do not see."""
