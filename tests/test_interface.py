@@ -56,6 +56,54 @@ FUNCTIONS = {
         "exchange_row": "program other most",
         "is_exchange_row": "program other value",
     },
+    "fewersteps.change.merging": {
+        "alike_places": "program",
+        "place_difference": "program one other",
+        "is_place_difference": "program one other value",
+        "slim": "program",
+        "merged": "program",
+        "apart_paper": "program",
+        "is_apart_paper": "program value",
+    },
+    "fewersteps.build.rules": {
+        "kept": "program name rule",
+        "first_unparted": "rules",
+        "cases": "program name rules",
+    },
+    "fewersteps.build.pipes": {
+        "pipe": "one sink other source",
+        "beside": "one other",
+        "only": "program sinks",
+        "drained": "program name signs",
+        "filled": "program source word",
+    },
+    "fewersteps.build.recipes": {
+        "read_recipe": "streams text",
+        "is_recipe": "streams value",
+        "unrolled": "streams text index",
+    },
+    "fewersteps.use.depends": {
+        "doubled": "program source name",
+        "depends": "program sink source",
+        "dependence": "program sink source",
+        "is_dependence": "program sink source value",
+        "copies": "program",
+        "blind_signs": "program name",
+        "exchangeable": "program",
+        "constant": "program sink",
+    },
+    "fewersteps.text.texts": {
+        "write_program": "program",
+        "write_words": "words",
+        "write_exchange": "exchange",
+        "write_row": "row",
+        "write_apart": "value",
+        "read_program": "streams text",
+        "read_words": "text",
+        "read_exchange": "text",
+        "read_row": "text",
+        "read_apart": "text",
+    },
 }
 CLASSES = {
     ("fewersteps.base.streams", "Streams"): {
@@ -133,6 +181,46 @@ CLASSES = {
         "__eq__": None,
         "__str__": None,
     },
+    ("fewersteps.build.rules", "Rule"): {
+        "__init__": "self signs states",
+        "__call__": "self word",
+        "negated": "self",
+        "__contains__": None,
+        "__and__": None,
+        "__or__": None,
+        "__len__": None,
+        "__eq__": None,
+        "__str__": None,
+    },
+    ("fewersteps.desk.desk", "Desk"): {
+        "__init__": "self streams",
+        "enter": "self name program",
+        "remove": "self name",
+        "exchange": "self name exchange",
+        "merge": "self name",
+        "pin": "self pin",
+        "unpin": "self pin",
+        "trial": "self changes",
+        "undo": "self many",
+        "redo": "self many",
+        "compare": "self one other",
+        "relations": "self",
+        "run": "self name content",
+        "twin": "self",
+        "__getitem__": None,
+        "__iter__": None,
+        "__contains__": None,
+        "__len__": None,
+        "__eq__": None,
+        "__str__": None,
+    },
+    ("fewersteps.text.shell", "Shell"): {
+        "__init__": "self streams",
+        "__call__": "self command",
+        "desk": "self",
+        "__len__": None,
+        "__str__": None,
+    },
 }
 CLASS_METHODS = {
     ("fewersteps.books.program", "Program"): {
@@ -141,6 +229,7 @@ CLASS_METHODS = {
         "copying": "streams source sink",
     },
     ("fewersteps.algebra.bags", "Bag"): {"of": "program", "none": "streams"},
+    ("fewersteps.build.rules", "Rule"): {"of_words": "signs words", "counting": "signs counted by rest"},
 }
 PROPERTIES = {
     ("fewersteps.base.streams", "Streams"): ("sources", "sinks", "names"),
@@ -148,6 +237,8 @@ PROPERTIES = {
     ("fewersteps.books.runs", "Run"): ("place", "left", "filling", "steps", "ways", "moves"),
     ("fewersteps.books.runs", "Feeder"): ("came", "has_ended", "result", "waits_for", "place"),
     ("fewersteps.algebra.bags", "Bag"): ("streams", "pairs", "bound", "flow"),
+    ("fewersteps.build.rules", "Rule"): ("signs", "states"),
+    ("fewersteps.desk.desk", "Desk"): ("streams", "programs", "pins", "heads"),
 }
 CONSTANTS = {
     ("fewersteps.base.streams", "MAX_WORD"): 200,
@@ -156,11 +247,18 @@ CONSTANTS = {
     ("fewersteps.books.flows", "MAX_FLOW"): 20000,
     ("fewersteps.decide.tables", "MAX_ROWS"): 200,
     ("fewersteps.decide.tables", "MAX_REST"): 20,
+    ("fewersteps.build.rules", "MAX_STATES"): 6,
+    ("fewersteps.build.recipes", "MAX_WORDS"): 400,
+    ("fewersteps.build.recipes", "MAX_DEPTH"): 12,
+    ("fewersteps.desk.desk", "MAX_PROGRAMS"): 6,
+    ("fewersteps.desk.desk", "MAX_PINS"): 8,
 }
 KEYWORDS = (
     ("fewersteps.books.runs", "Run", "undo", {"many": 1}),
     ("fewersteps.books.runs", "Feeder", "undo", {"many": 1}),
     ("fewersteps.change.exchanges", None, "exchange_row", {"most": 2}),
+    ("fewersteps.desk.desk", "Desk", "undo", {"many": 1}),
+    ("fewersteps.desk.desk", "Desk", "redo", {"many": 1}),
 )
 
 

@@ -17,7 +17,7 @@ from tests import oracle, slow_merging
 from tests.cases import Case, spoil
 from tests.test_alike import counter
 from tests.test_exchanges import MORE, WAYS, loop
-from tests.values import BARE, COPY, EARLY, EVERY, LATE, LINE, LOOSE, LOST, NEST, PAIR, SHUFFLE, SOUND, THREE, TOSS
+from tests.values import BARE, COPY, EVERY, LATE, LINE, LOOSE, LOST, NEST, PAIR, SHUFFLE, SOUND, THREE, TOSS
 from tests.values import anything, but, long_program, ways_program
 
 TINY = Streams((("x", "a"),), (("z", "a"),))

@@ -65,7 +65,7 @@ def random_sum(pick, bag, many, most=2):
             at = pick.choice(places)
             rests = [random_rest(pick, signs, name in program.ended(at), most) for name, signs in bag.streams.sources]
             rests.extend(random_rest(pick, signs, False, most) for _, signs in bag.streams.sinks)
-            items[(index, at, tuple(rests))] = pick.choice([1, -1, 2, -3, 10 ** 65])
+            items[(index, at, tuple(rests))] = pick.choice([1, -1, 2, -3, 10 ** 59])
     return tuple((*key, items[key]) for key in sorted(items))
 
 
@@ -147,10 +147,35 @@ class TestSum(Case):
 
     def test_factors(self):
         bag = Bag.of(COPY)
-        for factor in (1, -1, 10 ** 59, -10 ** 99):
+        for factor in (1, -1, 10 ** 59, 10 ** 60 - 1, 1 - 10 ** 60):
             self.assertIs(is_sum(bag, ((0, 0, ("", ""), factor),)), True)
-        for factor in (0, True, None, "1", (1,), {}):
+            self.same(stripped(bag, ((0, 0, ("b", "a"), factor),)), ((0, 0, ("", ""), factor),))
+        for factor in (0, True, None, "1", (1,), {}, 10 ** 60, -10 ** 60, 10 ** 99):
             self.assertIs(is_sum(bag, ((0, 0, ("", ""), factor),)), False)
+            # One of two items is enough.
+            items = ((0, 0, ("", ""), 1), (0, 0, ("", "a"), factor))
+            for call in (is_sum, stripped, gone_on):
+                if call == is_sum:
+                    self.assertIs(call(bag, items), False)
+                else:
+                    self.refused(InvalidOperation, call, bag, items)
+            for call in (can_lead, led, split):
+                self.refused(InvalidOperation, call, bag, items, "x")
+                # That it is no sum comes ahead of an unknown name.
+                self.refused(InvalidOperation, call, bag, items, "z")
+
+    def test_factors_that_are_made(self):
+        # Bags of the package can have longer factors, and so can what is made of them and of sums.
+        bag = Bag.of(COPY) * 10 ** 59 * 10
+        self.same(first_sum(bag), ((0, 0, ("", ""), 10 ** 60),))
+        self.assertIs(is_sum(bag, first_sum(bag)), False)
+        half = (10 ** 60 - 1, 10 ** 60 - 1)
+        items = ((0, 1, ("a", ""), half[0]), (0, 3, (".", "a"), 1), (0, 3, (".", "b"), half[1]))
+        self.same(stripped(Bag.of(COPY), items), items)
+        items = ((0, 0, ("", "ab"), half[0]), (0, 1, ("", "b"), half[1]))
+        self.same(led(Bag.of(COPY), items, "x")[-1][3], half[0])
+        twice = ((0, 0, ("", "a"), half[0]), (0, 1, ("", ""), half[1]))
+        self.assertEqual({item[3] for item in led(Bag.of(COPY), twice, "x")}, {2 * half[0]})
 
     def test_order(self):
         bag = Bag.of(COPY) - LATE
@@ -358,7 +383,7 @@ def ring(many, behind):
 EMPTY = [
     Bag.of(COPY) - LATE, Bag.of(EARLY) - TARDY, Bag.of(STEPS) - YIELDS, Bag.of(COPY) - COPY, Bag.none(PAIR),
     Bag.of(LOST),
-    Bag(LINE, ((COPY, 10 ** 59), (LATE, -10 ** 59), (LOST, 7))) * 10 ** 59, 2 * Bag.of(TARDY) - 2 * Bag.of(EARLY),
+    Bag(LINE, ((COPY, 10 ** 59), (LATE, -10 ** 59), (LOST, 7))) * 9, 2 * Bag.of(TARDY) - 2 * Bag.of(EARLY),
     Bag.of(ahead(3)[0]) - ahead(3)[1], Bag.of(words_of_y(3)[0]) - words_of_y(3)[1], Bag.of(ring(2, 1)) - ring(3, 1),
 ]
 
@@ -386,6 +411,19 @@ class TestClosed(Case):
             else:
                 self.assertIsNone(table[items])
         self.assertEqual(sorted(reached), list(table))
+
+    def test_long_factors(self):
+        # A sum with a factor of more than sixty digits is found, but it is none of a table that is passed.
+        bag = Bag(LINE, ((COPY, 10 ** 59), (LATE, -10 ** 59))) * 10
+        table = closed_table(bag)
+        self.assertEqual({abs(item[3]) for items in table for item in items}, {10 ** 60})
+        self.assertIs(is_closed_table(bag, table), False)
+        small = closed_table(Bag.of(COPY) - LATE)
+        self.assertEqual([tuple(item[:3] for item in items) for items in small],
+                         [tuple(item[:3] for item in items) for items in table])
+        self.assertIs(is_closed_table(Bag.of(COPY) - LATE, {**small, **table}), False)
+        nines = {tuple((*item[:3], item[3] * (10 ** 60 - 1)) for item in items): small[items] for items in small}
+        self.assertIs(is_closed_table(Bag.of(COPY) - LATE, {**small, **nines}), True)
 
     def test_known(self):
         self.same(closed_table(Bag.of(EARLY) - TARDY), {

@@ -3,6 +3,10 @@
 from fewersteps.algebra.bags import Bag
 from fewersteps.base.streams import Streams
 from fewersteps.books.program import Program, made_program
+from fewersteps.books.runs import Feeder, Run
+from fewersteps.build.rules import Rule
+from fewersteps.desk.desk import Desk
+from fewersteps.text.shell import Shell
 
 LINE = Streams((("x", "ab"),), (("z", "ab"),))
 COPY = Program(
@@ -106,7 +110,12 @@ def dicts():
 def objects():
     """Objects of the package."""
     bags = [Bag.of(TOSS), Bag.none(LINE), (Bag.of(COPY), 1)]
-    return [LINE, PAIR, COPY, Program.nothing(PAIR), (LINE, COPY), [COPY], {"a": LINE}, ((COPY, True),), *bags]
+    others = [Rule.counting("cd", "c", 2, 0), Run(COPY, ("a",)), Feeder(COPY), Desk(LINE), Shell(PAIR)]
+    kept = [[others[0]], {"z": others[4]}, ("alike", others[2], others[3])]
+    return [
+        LINE, PAIR, COPY, Program.nothing(PAIR), (LINE, COPY), [COPY], {"a": LINE}, ((COPY, True),),
+        *bags, *others, *kept,
+    ]
 
 
 def anything():
