@@ -228,8 +228,8 @@ class TestDepends(Case):
             self.assertIs(is_dependence(COPY, "z", "x", value), False)
         right = (("",), ("a",), "a")
         self.assertIs(is_dependence(COPY, "z", "x", right), True)
-        for value in (list(right), right[:2], right + (1,), ("", "a", "a"), (("",), ("a",), ("a",)), (("",), ["a"], "a"),
-                      (("",), ("c",), "c"), (("",), ("a", ""), "a"), (("a",), ("a",), "a"), (("",), ("a",), "c"),
+        for value in (list(right), right[:2], right + (1,), ("", "a", "a"), (("",), ("a",), ("a",)),
+                      (("",), ["a"], "a"), (("",), ("c",), "c"), (("",), ("a", ""), "a"), (("a",), ("a",), "a"), (("",), ("a",), "c"),
                       (("",), ("a",), None)):
             self.assertIs(is_dependence(COPY, "z", "x", value), False)
         # The contents differ in another source's word, or in both.
@@ -487,7 +487,8 @@ class TestConstant(Case):
                               ("take", "x", {"a": 1})))
         self.same(constant(idle, "z"), "")
         # A loop that puts to the sink, of which runs come out.
-        self.same(constant(Program(LINE, (("take", "x", {"a": 1, "end": 2}), ("put", "z", "a", 0), ("done",))), "z"), None)
+        more = Program(LINE, (("take", "x", {"a": 1, "end": 2}), ("put", "z", "a", 0), ("done",)))
+        self.same(constant(more, "z"), None)
 
     def test_no_limit(self):
         many = made_program(Streams((("x", "a"),), (("z", "a"),)), ways_program(20001).places)

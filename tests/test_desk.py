@@ -338,7 +338,8 @@ class TestPins(Case):
         desk.pin(("relation", ("a",), (0,)))
         wrong = [
             ("alike", "a"), ("alike", "a", "b", "c"), ["alike", "a", "b"], ("like", "a", "b"), ("alike", "a", "d"),
-            ("alike", "d", "a"), ("alike", "a", "a"), ("unlike", "a", ["b"]), ("alike", ("a",), "b"), ("alike", {}, "a"),
+            ("alike", "d", "a"), ("alike", "a", "a"), ("unlike", "a", ["b"]), ("alike", ("a",), "b"),
+            ("alike", {}, "a"),
             ("relation", ("a", "b"), (1,)), ("relation", ("a", "a"), (1, -1)), ("relation", (), ()),
             ("relation", ("a", "d"), (0, 0)), ("relation", ["a"], (0,)), ("relation", ("a",), [0]),
             ("relation", ("a",), (False,)), ("relation", ("a",), (10 ** 60,)), ("relation", "a", (0,)),

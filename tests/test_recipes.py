@@ -205,7 +205,8 @@ class TestFaults(Case):
         for streams, text, at in (
                 (BARE, "each x ( a : , a : )", 5), (BARE, "take x ( a : , end : , a : )", 8),
                 (BARE, "take x ( end : , end : )", 6), (BARE, "choose ( | | | | )", 5), (BARE, "choose ( | | |", 5),
-                (BARE, "choose ( )", 2), (BARE, "choose ( rest x )", 4), (BARE, "each x ( )", 3), (BARE, "take x ( )", 3),
+                (BARE, "choose ( )", 2), (BARE, "choose ( rest x )", 4), (BARE, "each x ( )", 3),
+                (BARE, "take x ( )", 3),
                 (BARE, "each x ( end : )", 3), (BARE, "put x a", 0), (BARE, ")", 0), (BARE, ",", 0), (BARE, "|", 0),
                 (BARE, "rest x )", 2), (BARE, "rest x ,", 2), (BARE, "take x ( a : |", 5), (BARE, "choose ( ,", 2),
                 (LINE, "put x a", 1), (LINE, "put z c", 2), (LINE, "take z ( a : )", 1), (LINE, "put z", 2),

@@ -242,10 +242,10 @@ class TestPaper(Case):
         self.assertIs(is_relation_paper((COPY, LATE), right), True)
         wrong = [
             (((True, -1),), *right[1:]), (((1, -1, 0),), *right[1:]), (((2, -2),), *right[1:]), ((), *right[1:]),
-            ([(1, -1)], *right[1:]), (((-1, 1),), *right[1:]), (([1, -1],), *right[1:]), 
+            ([(1, -1)], *right[1:]), (((-1, 1),), *right[1:]), (([1, -1],), *right[1:]),
             (((1, -1), (0, 0)), *right[1:]),
             (right[0], (False,), right[2]), (right[0], [0], right[2]), (right[0], (2,), right[2]), (right[0], (), ()),
-            (right[0], (0,), [(("a",), ("a",))]), (right[0], (0,), ((("a",), ("b",)),)), 
+            (right[0], (0,), [(("a",), ("a",))]), (right[0], (0,), ((("a",), ("b",)),)),
             (right[0], (0,), (("a", "a"),)),
             (right[0], (0,), ((("a",), ("a",)),) * 2), (right[0], (0, 1), ((("a",), ("a",)),) * 2), right[:2],
             (right[0], (0,), ((("c",), ("a",)),)), (right[0], (0,), ((["a"], ("a",)),)), list(right), (*right, ()),

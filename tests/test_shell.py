@@ -171,7 +171,7 @@ class TestCommands(Case):
         shell = shell_of(PAIR, early=EARLY, shuffle=SHUFFLE)
         self.same(shell("run early - -"), "a x 1")
         self.same(shell("run shuffle a b"), "ab x 3, ba x 3")
-        self.same([shell("run shuffle a"), shell("run shuffle ab"), shell("run shuffle b a"), shell("run shuffle a b -")],
+        self.same([shell(f"run shuffle {words}") for words in ("a", "ab", "b a", "a b -")],
                   ["what"] * 4)
         self.same([shell("depends early z x"), shell("depends shuffle z y")], ["no", "yes"])
         bare = Shell(Streams((("x", "a"),), ()))
@@ -233,7 +233,8 @@ class TestErrors(Case):
             # Recipes, texts, exchanges, and contents.
             "recipe a put z a", "recipe a rest x rest x", "recipe a put z c rest x", "recipe a each x (",
             "recipe a rest x ", "recipe a  rest x", "program a take x a1; done", "program a done", "program a take q",
-            "program a take x end1;done", "program a " + "; ".join(["done"] * 90), "exchange a copy 1", "exchange a wait 0",
+            "program a take x end1;done", "program a " + "; ".join(["done"] * 90), "exchange a copy 1",
+            "exchange a wait 0",
             "exchange a delay -1", "exchange a delay 01", "exchange nobody delay 01", "run a c", "run a a b", "run a .",
             "run a " + "a" * 201, "run nobody abc", "run a -a", "run a A",
         ])

@@ -247,8 +247,8 @@ class TestExchange(Case):
                 self.refused(InvalidOperation, write_exchange, ("turn", 0, value))
             self.refused(InvalidOperation, write_exchange, (value, 0))
         for value in (("turn", 0), ("turn", 0, ()), ("turn", 0, [0]), ("turn", 0, 1, 0), ("delay", 0, 0), ("copy", 0),
-                      ("flat", 0, 1, 2), ["delay", 0], ("delay", True), ("delay", -1), ("delay", (0,)), ("copy", 0, (0,)),
-                      ("delay", 10 ** 60), ("delay",), ("wait", 0)):
+                      ("flat", 0, 1, 2), ["delay", 0], ("delay", True), ("delay", -1), ("delay", (0,)),
+                      ("copy", 0, (0,)), ("delay", 10 ** 60), ("delay",), ("wait", 0)):
             self.refused(InvalidOperation, write_exchange, value)
 
 
@@ -320,8 +320,8 @@ class TestApart(Case):
                 self.same(write_apart(found), other)
 
     def test_wrong(self):
-        for value in ("", "alike ", "Alike", "a > b", "a > b: 1", "a > b: 1 0 1", "a > b : 1 0", "a > b:1 0", "a>b: 1 0",
-                      ". > b: 1 0", "a > : 1 0", " > b: 1 0", "a b c d > b: 1 0", "a > b: 01 0", "a > b: -0 0",
+        for value in ("", "alike ", "Alike", "a > b", "a > b: 1", "a > b: 1 0 1", "a > b : 1 0", "a > b:1 0",
+                      "a>b: 1 0", ". > b: 1 0", "a > : 1 0", " > b: 1 0", "a b c d > b: 1 0", "a > b: 01 0", "a > b: -0 0",
                       f"a > b: {LONG} 0", f"a > b: 0 -{LONG}", "a > b > c: 1 0", "a > b: 1 0: 1 0", "a > b: 1  0",
                       "a  > b: 1 0", "none", "a > b: a b"):
             self.refused(ParseError, read_apart, value, keeps=("at", None))
@@ -337,7 +337,8 @@ class TestApart(Case):
                 self.refused(InvalidOperation, write_apart, (("a",), value, 1, 0))
         right = (("a",), ("b",), 1, 0)
         for value in (list(right), right[:3], right + (1,), ((), ("b",), 1, 0), (("a",) * 4, (), 1, 0),
-                      (("a",), ("b",), True, 0), (("a",), ("b",), 1, 10 ** 60), (("A",), ("b",), 1, 0), ("a", "b", 1, 0)):
+                      (("a",), ("b",), True, 0), (("a",), ("b",), 1, 10 ** 60), (("A",), ("b",), 1, 0),
+                      ("a", "b", 1, 0)):
             self.refused(InvalidOperation, write_apart, value)
 
 
