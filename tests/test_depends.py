@@ -229,7 +229,8 @@ class TestDepends(Case):
         right = (("",), ("a",), "a")
         self.assertIs(is_dependence(COPY, "z", "x", right), True)
         for value in (list(right), right[:2], right + (1,), ("", "a", "a"), (("",), ("a",), ("a",)),
-                      (("",), ["a"], "a"), (("",), ("c",), "c"), (("",), ("a", ""), "a"), (("a",), ("a",), "a"), (("",), ("a",), "c"),
+                      (("",), ["a"], "a"), (("",), ("c",), "c"), (("",), ("a", ""), "a"), (("a",), ("a",), "a"),
+                      (("",), ("a",), "c"),
                       (("",), ("a",), None)):
             self.assertIs(is_dependence(COPY, "z", "x", value), False)
         # The contents differ in another source's word, or in both.

@@ -285,6 +285,30 @@ class TestChanges(Case):
         self.same(desk.pin(("relation", ("a", "b", "c"), (1, -1, 0))), ())
         self.refused(TooMany, desk.enter, "b", many[2], keeps=("limit", 20000))
         self.refused(Refused, desk.enter, "b", many[1], keeps=("claim", ("relation", ("a", "b", "c"), (1, -1, 0))))
+        # Too many runs for a later pin come ahead of an earlier one that would not hold.
+        desk = Desk(BARE)
+        for name, program in zip("abc", (many[0], many[0], many[1])):
+            desk.enter(name, program)
+        for pin in (("alike", "a", "b"), ("relation", ("a", "b", "c"), (1, -1, 0))):
+            desk.pin(pin)
+        self.refused(Refused, desk.enter, "b", many[1], keeps=("claim", ("alike", "a", "b")))
+        self.refused(TooMany, desk.enter, "b", many[2], keeps=("limit", 20000))
+
+    def test_flows_of_all_pairs(self):
+        # The new program is compared with the first one of alike programs, but each of them counts for the runs.
+        few = Program(BARE, (("either", (1, 1, 1, 1)), ("either", (2, 2, 2, 2)), ("take", "x", {"end": 3}), ("done",)))
+        takes = [("take", "x", {"end": 21}) for _ in range(16)]
+        ways = [("either", tuple(range(at, at + 4))) for at in (1, 5, 9, 13, 17)]
+        many = Program(BARE, (*ways, *takes, ("done",)))
+        double = Program(BARE, (("take", "x", {"a": 1, "end": 2}), ("either", (0, 0)), ("done",)))
+        desk = Desk(BARE)
+        for name, program in (("a", few), ("b", many)):
+            desk.enter(name, program)
+        self.same(desk.heads, {"a": "a", "b": "a"})
+        self.refused(TooMany, desk.enter, "c", double, keeps=("limit", 20000))
+        desk.remove("b")
+        self.same(desk.enter("c", double), (("c", "", "c"),))
+        self.refused(TooMany, desk.enter, "b", many, keeps=("limit", 20000))
 
     def test_remove(self):
         pins = (("alike", "a", "b"), ("unlike", "a", "c"), ("relation", ("d", "a"), (0, 0)), ("equal", "e", TOSS))
@@ -346,6 +370,7 @@ class TestPins(Case):
             ("relation", ("a",), (0, 0)), ("equal", "a", None), ("equal", "d", COPY), ("equal", "a", EARLY),
             ("equal", "a", "b"), ("equal", ("a",), COPY), ("equal", "a", COPY, COPY), (), "alike", ("equal", COPY, "a"),
             ("relation", (["a"],), (0,)), ("relation", ({},), (0,)), (None, "a", "b"), (("alike",), "a", "b"),
+            ("same", "a", COPY), (None, "a", COPY), ("unlik", "a", "b"), ("relations", ("a",), (0,)),
         ]
         for value in (*wrong, *but()):
             self.refused(InvalidOperation, desk.pin, value)
@@ -383,6 +408,20 @@ class TestPins(Case):
         self.refused(Refused, desk.enter, "a", TURN, keeps=("claim", pins[0]))
         self.same(desk.merge("b"), ())
         self.refused(Refused, desk.enter, "b", TURN, keeps=("claim", pins[0]))
+
+    def test_six_names(self):
+        desk = desk_of(a=COPY, b=COPY, c=COPY, d=COPY, e=COPY, f=COPY)
+        self.same(desk.pin(("relation", tuple("fedcba"), (1, 1, 1, -1, -1, -1))), ())
+        self.refused(InvalidOperation, desk.pin, ("relation", tuple("fedcbaa"), (1, 1, 1, -1, -1, -1, 0)))
+
+    def test_names_like_pins(self):
+        desk = desk_of(alike=COPY, unlike=TURN, equal=COPY, relation=COPY)
+        for pin in (("unlike", "alike", "unlike"), ("equal", "alike", COPY), ("relation", ("alike", "unlike"), (0, 0))):
+            desk.pin(pin)
+        for name in ("alike", "unlike"):
+            self.refused(InvalidOperation, desk.remove, name)
+        for name in ("equal", "relation"):
+            self.same(desk.remove(name), ((name, "alike", ""),))
 
     def test_equal_is_about_places(self):
         desk = desk_of(a=TOSS)

@@ -2,6 +2,7 @@
 
 import copy
 import itertools
+import random
 import unittest
 
 from fewersteps.base.streams import Streams
@@ -64,6 +65,24 @@ def tiny_programs():
                 yield Program(TINY, table)
 
 
+def random_program(pick, many):
+    """A program of TINY with many either places, or None if chance made none that is right."""
+    half = pick.randrange(1, many - 1)
+    places = []
+    for at in range(many - 1):
+        later = range(at + 1, half) if at < half else range(at + 1, many)
+        kind = pick.choice(("take", "put", "either", "either")) if later else "take"
+        if kind == "take" and at < half:
+            moves = {"a": pick.randrange(half), "end": pick.randrange(half, many)}
+            places.append(("take", "x", {step: to for step, to in moves.items() if pick.random() < 0.8}))
+        elif kind == "put" or kind == "take":
+            places.append(("put", "z", "a", pick.choice(later)))
+        else:
+            places.append(("either", tuple(pick.choice(later) for _ in range(pick.randrange(3) + 1))))
+    places.append(("done",))
+    return Program(TINY, tuple(places)) if is_places(TINY, tuple(places)) else None
+
+
 def copied(program, many):
     """The program behind so many exchanges that make new places, all different."""
     for at in range(many):
@@ -97,6 +116,24 @@ class TestAlikePlaces(Case):
             found.add(expected)
         self.assertGreater(len(found), 8)
 
+    def test_random_programs(self):
+        pick = random.Random(9)
+        done = 0
+        for _ in range(6000):
+            program = random_program(pick, pick.randrange(4, 10))
+            if program is None:
+                continue
+            try:
+                self.same(alike_places(program), slow_merging.classes(program))
+            except TooMany:
+                continue
+            done += 1
+            less = merged(program)
+            self.same(less.places, slow_merging.merged_places(slim(program)))
+            self.assertEqual(merged(less), less)
+            self.assertEqual(len(alike_places(less)), len(less))
+        self.assertGreater(done, 150)
+
     def test_other_sources_have_ended(self):
         classes = alike_places(ENDS)
         # Places 1, 2 and 17 have the same tails as places 3 and 4.
@@ -116,6 +153,23 @@ class TestAlikePlaces(Case):
             self.assertEqual(program.size, many + 1)
             self.same(alike_places(program), tuple((at,) for at in range(many + 2)))
             self.same(place_difference(program, 0, 1), (("a" * many,), ()))
+
+    def test_the_same_numbers_by_other_ways(self):
+        # Twice to one place is as good as to two alike ones.
+        loops = [("take", "x", {"a": at, "end": 8}) for at in (5, 6, 7)]
+        takes = [("take", "x", {"a": at, "end": 8}) for at in (3, 4)]
+        program = Program(TINY, (("either", (1, 2)), *takes, ("either", (5, 5)), ("either", (6, 7)), *loops, ("done",)))
+        self.same(alike_places(program), ((0,), (1, 2), (3, 4), (5, 6, 7), (8,)))
+        # Four ways behind a take, or two ways ahead of it and two behind.
+        program = Program(
+            TINY,
+            (
+                ("either", (1, 2)), ("take", "x", {"a": 3}), ("take", "x", {"a": 4}), ("take", "x", {"a": 5}),
+                ("either", (6, 6)), ("either", (7, 7, 7, 7)), ("take", "x", {"a": 8}), ("take", "x", {"end": 9}),
+                ("either", (7, 7)), ("done",),
+            ),
+        )
+        self.same(alike_places(program), ((0,), (1, 2), (3, 4), (5,), (6,), (7,), (8,), (9,)))
 
     def test_twice_the_ways(self):
         # Equal tails, but not equally often.

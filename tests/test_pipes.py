@@ -250,6 +250,7 @@ class TestBeside(Case):
         for value in but():
             if not isinstance(value, Program):
                 self.refused(InvalidProgram, beside, value, None)
+                self.refused(InvalidProgram, beside, value, COPY)
                 self.refused(InvalidProgram, beside, COPY, value)
         self.refused(InvalidOperation, beside, COPY, COPY)
         self.refused(InvalidOperation, beside, COPY, SOUND)

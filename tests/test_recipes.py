@@ -366,6 +366,13 @@ class TestUnrolled(Case):
                      keeps=("limit", 12))
         self.refused(TooMany, unrolled, LINE, "each x ( a : ) " + ("put z a " * 79).strip(), 0, keeps=("limit", 80))
 
+    def test_the_text_comes_first(self):
+        # The text has wrong places, and what it becomes has too many words: what the text raises comes first.
+        wide = Streams((("x", "abcd"),), (("z", "abcd"),))
+        body = " ".join(["choose ( | )"] * 10)
+        text = f"each x ( a : {body} , b : {body} , c : {body} ) rest x"
+        self.refused(InvalidProgram, unrolled, wide, text, 0)
+
     def test_result(self):
         # The text is right, and what it becomes has too many words, is too deep, or has too many places.
         wide = Streams((("x", "abcd"),), (("z", "abcd"),))

@@ -321,7 +321,8 @@ class TestApart(Case):
 
     def test_wrong(self):
         for value in ("", "alike ", "Alike", "a > b", "a > b: 1", "a > b: 1 0 1", "a > b : 1 0", "a > b:1 0",
-                      "a>b: 1 0", ". > b: 1 0", "a > : 1 0", " > b: 1 0", "a b c d > b: 1 0", "a > b: 01 0", "a > b: -0 0",
+                      "a>b: 1 0", ". > b: 1 0", "a > : 1 0", " > b: 1 0", "a b c d > b: 1 0", "a > b: 01 0",
+                      "a > b: -0 0",
                       f"a > b: {LONG} 0", f"a > b: 0 -{LONG}", "a > b > c: 1 0", "a > b: 1 0: 1 0", "a > b: 1  0",
                       "a  > b: 1 0", "none", "a > b: a b"):
             self.refused(ParseError, read_apart, value, keeps=("at", None))

@@ -70,7 +70,6 @@ def _place_of(streams, statement, entries, numbers):
 
 def is_recipe(streams, value):
     """Whether the value is a text of which a program can be read."""
-    check_streams(streams)
     try:
         read_recipe(streams, value)
     except (ParseError, TooMany, InvalidProgram):

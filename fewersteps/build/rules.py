@@ -4,7 +4,7 @@ from fewersteps.base.streams import is_sign, is_signs, is_word
 from fewersteps.base.values import check_number, is_between
 from fewersteps.books.places import LOST, next_places, renumbered, trimmed_places
 from fewersteps.books.program import MAX_PLACES, check_program, made_program
-from fewersteps.errors import InvalidOperation, InvalidRule, InvalidWord, TooMany, UnknownName
+from fewersteps.errors import InvalidOperation, InvalidRule, InvalidWord, TooMany
 
 MAX_STATES = 6
 
@@ -173,19 +173,12 @@ class Rule:
 def kept(program, name, rule):
     """The trimmed program with the runs that are left if the word of this stream has to keep the rule."""
     check_program(program)
-    _check_name(program, name)
     _check_rule(program.streams.signs_of(name), rule)
     if len(program) * len(rule) > MAX_PLACES:
         raise TooMany(MAX_PLACES)
     states = rule.states
     places = [_kept_place(place, name, states, at) for place in program.places for at in range(len(states))]
     return made_program(program.streams, trimmed_places(program.streams, places, 0))
-
-
-def _check_name(program, name):
-    """Raise UnknownName if the program has no stream of this name."""
-    if name not in program.streams:
-        raise UnknownName(name)
 
 
 def _check_rule(signs, rule):
@@ -254,9 +247,9 @@ def _states_at(tables, now):
 def cases(program, name, rules):
     """The programs of the runs that keep each of the rules, of which each word keeps just one."""
     check_program(program)
-    _check_name(program, name)
+    signs = program.streams.signs_of(name)
     _check_rules(rules)
-    _check_rule(program.streams.signs_of(name), rules[0])
+    _check_rule(signs, rules[0])
     if _unparted_word(rules) is not None:
         raise InvalidOperation("a word keeps none or more than one of the rules")
     return tuple([kept(program, name, rule) for rule in rules])

@@ -43,10 +43,10 @@ class Reader:
 
     def __init__(self, streams, words):
         self._signs = {name: [*signs] for name, signs in streams.sources + streams.sinks}
-        self._taken = [name for name, signs in streams.sources]
-        self._put = [name for name, signs in streams.sinks]
+        self._sources = [name for name, signs in streams.sources]
+        self._sinks = [name for name, signs in streams.sinks]
         # Without sinks no recipe has a put.
-        self._kinds = ["take", "each", "rest", "choose"] + (["put"] if self._put else [])
+        self._kinds = ["take", "each", "rest", "choose"] + (["put"] if self._sinks else [])
         self.words = words
         self.at = 0
         self.statements = []
@@ -78,10 +78,10 @@ class Reader:
         part.numbers.append(len(self.statements))
         self.statements.append(statement)
         if kind == "put":
-            statement.name = self._next_of(self._put)
+            statement.name = self._next_of(self._sinks)
             statement.sign = self._next_of(self._signs[statement.name])
         elif kind != "choose":
-            statement.name = self._next_of(self._taken)
+            statement.name = self._next_of(self._sources)
         if kind in ("put", "rest"):
             statement.stops = self.at
         else:

@@ -178,14 +178,14 @@ class Shell:
             answer = _answer(self._desk, command)
         except (ParseError, InvalidProgram, InvalidContent):
             return "what"
-        except UnknownName as error:
-            return f"unknown {error.wanted}"
-        except Refused as error:
-            return f"refused {_pin_text(error.claim)}"
-        except TooMany as error:
-            return f"many {error.limit}"
-        except NothingToUndo as error:
-            return f"nothing {error.many}"
+        except UnknownName as unknown:
+            return f"unknown {unknown.wanted}"
+        except Refused as refused:
+            return f"refused {_pin_text(refused.claim)}"
+        except TooMany as many:
+            return f"many {many.limit}"
+        except NothingToUndo as nothing:
+            return f"nothing {nothing.many}"
         except InvalidOperation:
             return "no"
         self._answered.append(command)

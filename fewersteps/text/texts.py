@@ -132,7 +132,7 @@ def write_exchange(exchange):
 
 def _is_exchange(value):
     """Whether the value has the form of an exchange."""
-    if not isinstance(value, tuple) or len(value) < 2 or not isinstance(value[0], str):
+    if not isinstance(value, tuple) or len(value) == 0 or not isinstance(value[0], str):
         return False
     if value[0] == "turn":
         return len(value) == 3 and isinstance(value[2], tuple) and _are_naturals(value[1:2]) and _are_naturals(value[2])
