@@ -40,6 +40,7 @@ def _is_part(signs, value):
 
 def _beginnings(words):
     """With what the words begin, by lengths, then ascending; TooMany if these are too many for a rule."""
+    # A long word begins in too many ways by itself, and is not taken apart.
     if any([len(word) >= MAX_STATES for word in words]):
         raise TooMany(MAX_STATES)
     found = {"": True}
